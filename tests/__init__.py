@@ -1,0 +1,1 @@
+"""Tests of millpapers: run them by `bash .ci/run`."""
