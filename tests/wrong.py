@@ -1,0 +1,129 @@
+"""Values of the wrong kinds, each with the error that the document names and what its field holds."""
+
+from millpapers.errors import InvalidBox, InvalidChain, InvalidHoldings, InvalidList, InvalidMill, InvalidNumber
+from millpapers.errors import InvalidRow, UnknownName
+from millpapers.mills import Mill
+
+SPARE = Mill([("q", None)], [])
+
+ODD = [None, True, False, 0, 1, -1, "", "a", "row", (), (1, 1), [], [[]], {}, {"a": 1}, [None], [True], ["a"], SPARE]
+
+NO_AMOUNTS = [None, True, False, 0, 1, "1", "1/2", [1, 1], (1,), (1, 1, 1), (), (2, 2), (0, 2), (2, 4), (10 ** 20, 10),
+              (1, 0), (1, -1), (0, -1), (-1, 1), (-1, 2), (True, 1), (1, True), (False, 1), (None, 1), (1, None),
+              ("1", 1), (1, "1"), ((1, 1), 1), {}, SPARE]
+
+NO_STEPS_AMOUNTS = NO_AMOUNTS + [(0, 1)]
+
+NO_NAMES = [None, True, 0, "", "A", "1a", "a b", "a_b", "abcdefghi", "aB", "a-", "\u00e4", "a\u00e4", "a\n", ["a"],
+            ("a",), {}, SPARE]
+
+NO_WHOLES = [None, True, False, "0", (0, 1), [0], -1, {}, SPARE]
+
+
+def replaced(items, place, item):
+    """A new list with one item in the place of another."""
+    return [*items[:place], item, *items[place + 1:]]
+
+
+def bad_mills():
+    return [(value, InvalidMill, value) for value in ODD if not isinstance(value, Mill)]
+
+
+def bad_holdings(good):
+    """Values that are no holdings of a mill of which these are some; its second stuff has the room 1."""
+    values = [value for value in ODD if value != good]
+    values += [tuple(good), good[:-1], good + [(0, 1)], good[0], {"a": good}]
+    for place in range(len(good)):
+        values += [replaced(good, place, amount) for amount in NO_AMOUNTS]
+    values += [replaced(good, 1, amount) for amount in [(2, 1), (3, 2), (10 ** 14 + 1, 10 ** 14)]]
+    return [(value, InvalidHoldings, value) for value in values]
+
+
+def no_boxes(good):
+    """Values that are no boxes of a mill of which this is one; its second stuff has the room 1."""
+    values = list(ODD) + [tuple(good), good[:-1], good + [((0, 1), None)], [span[0] for span in good]]
+    for place in range(len(good)):
+        values += [replaced(good, place, (amount, None)) for amount in NO_AMOUNTS]
+        values += [replaced(good, place, ((0, 1), amount)) for amount in NO_AMOUNTS if amount is not None]
+        values += [replaced(good, place, span) for span in ODD]
+        values += [replaced(good, place, span) for span in [
+            [(0, 1), None], ((0, 1),), ((0, 1), None, None), ((1, 1), (0, 1)), ((1, 2), (1, 3)), (None, (1, 1))]]
+    values += [replaced(good, 1, span) for span in [
+        ((2, 1), None), ((0, 1), (2, 1)), ((3, 2), (3, 2)), ((0, 1), (3, 2))]]
+    return values
+
+
+def bad_boxes(good):
+    return [(value, InvalidBox, value) for value in no_boxes(good)]
+
+
+def bad_chains(good):
+    values = [value for value in ODD] + [tuple(good), good[:1], (good * 3)[:6], good[0][0], {"a": good}]
+    bad = [(value, InvalidChain, value) for value in values]
+    for place in range(len(good)):
+        bad += [(replaced(good, place, box), InvalidBox, box) for box in no_boxes(good[place])]
+    bad.append((good[:1] + [None, True], InvalidBox, None))
+    bad.append(([(), []], InvalidBox, ()))
+    return bad
+
+
+def no_rows(recipe):
+    """Values that are no rows of any mill with this recipe."""
+    step = (recipe, (1, 8))
+    values = [value for value in ODD if value != []]
+    values += [((1, [step]),), [[1, [step]]], [(1, (step,))], [(1, [])], [(1, [step], 1)], [(1,)], [step], [[step]]]
+    values += [[(times, [step])] for times in [None, True, False, 0, -1, "1", (1, 1), [1]]]
+    values += [[(1, [bad])] for bad in ODD]
+    values += [[(1, [bad])] for bad in [[recipe, (1, 8)], (recipe,), (recipe, (1, 8), 1), ("nobody", (1, 8))]]
+    values += [[(1, [(name, (1, 8))])] for name in [None, True, 0, [recipe], (recipe,), {}, SPARE, "", recipe + "x"]]
+    values += [[(1, [(recipe, amount)])] for amount in NO_STEPS_AMOUNTS]
+    values += [[(1, [step]), None], [(1, [step]), (0, [step])], [(1, [step, step[:1]])]]
+    return values
+
+
+def bad_rows(recipe, too_much):
+    """Values that are no rows that can be done, some of them rows of the mill that do too much."""
+    return [(value, InvalidRow, value) for value in no_rows(recipe) + too_much]
+
+
+def bad_numbers(most):
+    """Values that are no numbers of boxes, where there is none with the number `most`."""
+    return [(value, InvalidNumber, value) for value in NO_WHOLES + [most, most + 1, 10 ** 30]]
+
+
+def bad_widths():
+    return [(value, InvalidNumber, value) for value in NO_STEPS_AMOUNTS]
+
+
+def bad_names():
+    values = [None, True, 0, "", "nobody", "A", ["a"], ("a",), {}, (0, 1), SPARE]
+    return [(value, UnknownName, value) for value in values]
+
+
+def bad_lists_of_amounts(good):
+    values = list(ODD) + [tuple(good), good[:-1], good + [(0, 1)]]
+    for place in range(len(good)):
+        values += [replaced(good, place, amount) for amount in NO_AMOUNTS]
+    return [(value, InvalidList, value) for value in values]
+
+
+def check_arguments(test, function, arguments):
+    """Check all errors of a function.
+
+    `arguments` are tuples (name, good, bad), in the order of the parameters, with lists `bad` of tuples
+    (value, error, field). Each bad value is handed in with good ones ahead of it, and behind it first with good ones
+    and then with bad ones: in both cases it is the one that is told.
+    """
+    good = [mine for _, mine, _ in arguments]
+    worst = [bad[0][0] if bad else mine for _, mine, bad in arguments]
+    for place, (name, _, bad) in enumerate(arguments):
+        for value, error, field in bad:
+            for behind in (good, worst):
+                handed = good[:place] + [value] + behind[place + 1:]
+                with test.subTest(function=function.__name__, argument=name, value=value):
+                    with test.assertRaises(error) as caught:
+                        function(*handed)
+                    test.assertIs(caught.exception.__class__, error)
+                    test.assertIs(list(caught.exception.__dict__.values())[0], field)
+    names = {name: mine for name, mine, _ in arguments}
+    test.assertEqual(function(**names), function(*good))
