@@ -1,0 +1,159 @@
+"""[1], [2] and the interface: names, arguments and files; lists belong to the caller; equal calls tell the same."""
+
+import copy
+import importlib
+import inspect
+import unittest
+
+from millpapers.courses import bars, bottom, course, is_bars, is_course, may, narrow, row_bars, row_of, row_to, top
+from millpapers.mills import Mill, turned
+from millpapers.rows import done, is_row, led, narrows
+from tests.makers import FREE, NONE, nailed
+
+INTERFACE = {
+    "millpapers.mills": {"Mill": ["stuffs", "recipes"], "turned": ["mill"]},
+    "millpapers.rows": {
+        "led": ["mill", "have", "row"], "is_row": ["mill", "have", "value"], "narrows": ["mill", "have", "row"],
+        "done": ["mill", "row"]},
+    "millpapers.courses": {
+        "course": ["mill", "chain"], "bars": ["mill", "chain"], "is_course": ["mill", "chain", "value"],
+        "is_bars": ["mill", "chain", "value"], "row_to": ["mill", "have", "goal"], "row_bars": ["mill", "have", "goal"],
+        "may": ["mill", "chain"], "top": ["mill", "chain", "at", "stuff"], "bottom": ["mill", "chain", "at", "stuff"],
+        "row_of": ["mill", "have", "amounts"], "narrow": ["mill", "have", "goal", "width"]},
+}
+
+MILL = Mill([("a", None), ("b", 3)], [("r", [("a", 1)], [("b", 1)]), ("w", [("b", 2)], []), ("o", [], [])])
+
+
+def calls():
+    """Calls of each function, made anew: tuples of the function and the list of its arguments."""
+    have, row = [(4, 1), (0, 1)], [(2, [("r", (1, 2)), ("w", (1, 8))]), (1, [("r", (1, 4))])]
+    chain = [[nailed(4), NONE], [FREE, ((1, 1), None)], [((1, 2), None), FREE]]
+    barred = [[nailed(0), NONE], [FREE, FREE], [FREE, ((1, 1), None)]]
+    goal, far = [FREE, nailed(2)], [FREE, ((1, 1), None)]
+    yield turned, [MILL]
+    yield led, [MILL, have, row]
+    yield led, [MILL, have, []]
+    yield is_row, [MILL, have, row]
+    yield narrows, [MILL, have, row]
+    yield narrows, [MILL, have, []]
+    yield done, [MILL, row]
+    for function in (course, bars, may):
+        yield function, [MILL, chain]
+        yield function, [MILL, barred]
+    yield is_course, [MILL, chain, course(MILL, chain)]
+    yield is_bars, [MILL, barred, bars(MILL, barred)]
+    for function in (row_to, row_bars):
+        yield function, [MILL, have, goal]
+        yield function, [MILL, [(0, 1), (0, 1)], far]
+        yield function, [MILL, have, [FREE, FREE]]
+    for function in (top, bottom):
+        yield function, [MILL, chain, 1, "b"]
+        yield function, [MILL, barred, 0, "a"]
+    yield row_of, [MILL, have, [(1, 2), (1, 8), (5, 1)]]
+    yield row_of, [MILL, [(0, 1), (0, 1)], [(0, 1), (0, 1), (0, 1)]]
+    yield row_of, [MILL, [(2, 1), (3, 1)], [(1, 1), (0, 1), (0, 1)]]
+    yield row_of, [MILL, [(1, 1), (0, 1)], [(1, 1), (1, 2), (0, 1)]]
+    yield narrow, [MILL, have, goal, (1, 8)]
+
+
+def lists_in(value):
+    found = []
+    if isinstance(value, list):
+        found.append(value)
+    if isinstance(value, (list, tuple)):
+        for item in value:
+            found += lists_in(item)
+    return found
+
+
+def spoil(value):
+    """Change all lists in a value."""
+    for one in lists_in(value):
+        one.append("spoilt")
+
+
+def plain(value):
+    if isinstance(value, Mill):
+        return ("mill", value.stuffs(), value.recipes())
+    return value
+
+
+class GeneralTest(unittest.TestCase):
+    def test_no_list_stands_twice(self):
+        for function, handed in calls():
+            told = function(*handed)
+            lists = lists_in(told)
+            self.assertEqual(len(set(id(one) for one in lists)), len(lists), function.__name__)
+            mine = set(id(one) for one in lists_in(handed))
+            self.assertFalse([one for one in lists if id(one) in mine], function.__name__)
+
+    def test_told_lists_belong_to_the_caller(self):
+        for (function, handed), (_, again) in zip(calls(), calls()):
+            told = function(*handed)
+            kept = copy.deepcopy(plain(told))
+            spoil(told)
+            self.assertEqual(plain(function(*again)), kept, function.__name__)
+
+    def test_arguments_stay_as_they_were(self):
+        for function, handed in calls():
+            before = [copy.deepcopy(plain(mine)) for mine in handed]
+            told = function(*handed)
+            self.assertEqual([plain(mine) for mine in handed], before, function.__name__)
+            spoil(told)
+            self.assertEqual([plain(mine) for mine in handed], before, function.__name__)
+
+    def test_changed_arguments_change_nothing_told(self):
+        for function, given in calls():
+            handed = [mine if isinstance(mine, Mill) else copy.deepcopy(mine) for mine in given]
+            told = function(*handed)
+            kept = copy.deepcopy(plain(told))
+            spoil(handed)
+            self.assertEqual(plain(told), kept, function.__name__)
+
+    def test_equal_calls_tell_equal_results(self):
+        first = [plain(function(*handed)) for function, handed in calls()]
+        for function, handed in reversed(list(calls())):
+            function(*handed)
+        self.assertEqual([plain(function(*handed)) for function, handed in calls()], first)
+
+    def test_kinds_of_what_is_told(self):
+        for function, handed in calls():
+            self.assert_kinds(function(*handed), function.__name__)
+
+    def assert_kinds(self, value, name):
+        if isinstance(value, (list, tuple)):
+            self.assertIn(value.__class__, (list, tuple))
+            for item in value:
+                self.assert_kinds(item, name)
+            return
+        self.assertTrue(value is None or value.__class__ in (bool, int, str, Mill), (name, value))
+
+    def test_whether(self):
+        for function, handed in calls():
+            if function.__name__.startswith("is_"):
+                self.assertIs(function(*handed), True, function.__name__)
+
+    def test_mills_stay_alike(self):
+        same = Mill(MILL.stuffs(), MILL.recipes())
+        for function, handed in calls():
+            function(*handed)
+            self.assertEqual(MILL, same)
+
+
+class InterfaceTest(unittest.TestCase):
+    def test_names_arguments_and_files(self):
+        for module, names in INTERFACE.items():
+            held = importlib.import_module(module)
+            for name, arguments in names.items():
+                with self.subTest(name=name):
+                    self.assertEqual(getattr(held, name).__module__, module)
+                    parameters = inspect.signature(getattr(held, name)).parameters
+                    self.assertEqual(list(parameters), arguments)
+                    for parameter in parameters.values():
+                        self.assertIs(parameter.default, parameter.empty)
+                        self.assertIs(parameter.kind, parameter.POSITIONAL_OR_KEYWORD)
+
+
+if __name__ == "__main__":
+    unittest.main()

@@ -1,0 +1,131 @@
+"""[3]: at the limits each function answers within seconds."""
+
+import random
+import time
+import unittest
+from fractions import Fraction
+
+from millpapers.courses import bars, bottom, course, is_bars, is_course, may, narrow, row_bars, row_of, row_to, top
+from millpapers.mills import Mill, turned
+from millpapers.rows import done, is_row, led, narrows
+from tests.looker import number, pair
+from tests.makers import looker_of
+
+SECONDS = 5
+GREATEST = 10 ** 6
+# The numbers of boxes, stuffs and recipes at the limits of chains.
+SHAPES = ((2, 8, 8), (2, 8, 8), (4, 4, 4), (3, 5, 6), (5, 3, 3))
+
+
+def long_amount(chance, least, most):
+    under = chance.randrange(10 ** 14, 10 ** 15)
+    return pair(Fraction(chance.randrange(least * under, most * under + 1), under))
+
+
+def full_mill(chance, stuffs, recipes, rooms):
+    names = ["s%d" % n for n in range(stuffs)]
+
+    def side(count):
+        return [(name, chance.randrange(GREATEST // 2, GREATEST + 1)) for name in chance.sample(names, count)]
+    return Mill([(name, chance.choice(rooms)) for name in names],
+                [("r%d" % n, side(chance.randrange(1, stuffs + 1)), side(chance.randrange(0, stuffs + 1)))
+                 for n in range(recipes)])
+
+
+def long_spans(chance, mill, width):
+    spans = []
+    for _, room in mill.stuffs():
+        low = long_amount(chance, 0, 9 if room is None else room - 10)
+        high = pair(number(low) + Fraction(chance.randrange(0, width + 1), chance.choice([1, 7])))
+        spans.append((low, chance.choice([high, high, None])))
+    return spans
+
+
+class LimitsTest(unittest.TestCase):
+    def timed(self, function, *handed):
+        start = time.perf_counter()
+        told = function(*handed)
+        self.assertLess(time.perf_counter() - start, SECONDS, function.__name__)
+        return told
+
+    def check(self, mill, chain):
+        one, other = self.timed(course, mill, chain), self.timed(bars, mill, chain)
+        self.assertNotEqual(one is None, other is None)
+        if one is None:
+            self.assertTrue(self.timed(is_bars, mill, chain, other))
+            self.assertTrue(looker_of(mill).is_bars(chain, other))
+        else:
+            self.assertTrue(self.timed(is_course, mill, chain, one))
+            self.assertTrue(looker_of(mill).is_course(chain, one))
+        self.assertEqual(self.timed(may, mill, chain) is None, one is None)
+        for at in (0, len(chain) - 1):
+            for stuff, _ in mill.stuffs()[:2]:
+                self.timed(top, mill, chain, at, stuff)
+                self.timed(bottom, mill, chain, at, stuff)
+        return one is not None
+
+    def test_chains(self):
+        chance, yes = random.Random(41), []
+        for turn in range(50):
+            boxes, stuffs, recipes = SHAPES[turn % len(SHAPES)]
+            mill = full_mill(chance, stuffs, recipes, [None, None, GREATEST])
+            chain = [long_spans(chance, mill, 9) for _ in range(boxes)]
+            yes.append(self.check(mill, chain))
+        self.assertGreater(min(yes.count(True), yes.count(False)), 5)
+
+    def test_rows_between(self):
+        chance, rows = random.Random(42), 0
+        for _ in range(20):
+            mill = full_mill(chance, 8, 8, [None, GREATEST])
+            have = [long_amount(chance, 0, GREATEST) for _ in range(8)]
+            goal = [((0, 1), None)] * 7 + [((0, 1), long_amount(chance, 0, GREATEST))]
+            row = self.timed(row_to, mill, have, goal)
+            self.assertEqual(self.timed(row_bars, mill, have, goal) is None, row is not None)
+            slow = self.timed(narrow, mill, have, goal, (1, 10 ** 15 - 1))
+            if row is None:
+                continue
+            rows += 1
+            for mine in (row, slow):
+                self.assertTrue(self.timed(is_row, mill, have, mine))
+                self.timed(led, mill, have, mine)
+                self.timed(narrows, mill, have, mine)
+                self.timed(done, mill, mine)
+                self.timed(row_of, mill, have, done(mill, mine))
+        self.assertGreater(rows, 5)
+
+    def test_long_lines(self):
+        # Each recipe makes ready the next one, in either direction.
+        names = ["s%d" % n for n in range(8)]
+        line = Mill([(name, GREATEST) for name in names], [
+            ("r%d" % n, [(names[n], GREATEST), (names[n + 1], 1)], [(names[n], 1), (names[n + 1], GREATEST - n)])
+            for n in range(7)] + [("r7", [(names[0], 3)], [(names[1], 1)])])
+        nothing, bit = (0, 1), (1, 10 ** 15 - 1)
+        first = [(bit, bit)] + [(nothing, nothing)] * 7
+        for mill in (line, turned(line)):
+            for chain in ([first, first[::-1]], [first[::-1], first], [first, [(nothing, None)] * 8]):
+                self.check(mill, chain)
+
+    def test_long_figures(self):
+        chance = random.Random(43)
+        mill = full_mill(chance, 8, 8, [None])
+        amounts = []
+        for _ in range(8):
+            under = chance.randrange(10 ** 299, 10 ** 300)
+            amounts.append(pair(Fraction(chance.randrange(1, 10 ** 290), under)))
+        have = [pair(Fraction(chance.randrange(10 ** 299, 10 ** 300), chance.randrange(1, 10 ** 300)))
+                for _ in range(8)]
+        word, row = self.timed(row_of, mill, have, amounts)
+        self.assertEqual(word, "row")
+        self.assertEqual(self.timed(done, mill, row), amounts)
+        self.assertTrue(self.timed(is_row, mill, have, row))
+        times = 10 ** 300 - 1
+        steps = [("r%d" % chance.randrange(8), (1, chance.randrange(10 ** 299, 10 ** 300))) for _ in range(40)]
+        for row in ([(times, steps)], [(times, steps[:20]), (7, steps[20:])]):
+            self.assertTrue(self.timed(is_row, mill, [(10 ** 300 - 1, 1)] * 8, row))
+            self.timed(led, mill, [(10 ** 300 - 1, 1)] * 8, row)
+            self.timed(narrows, mill, [(10 ** 300 - 1, 1)] * 8, row)
+            self.timed(done, mill, row)
+
+
+if __name__ == "__main__":
+    unittest.main()
