@@ -3,6 +3,7 @@
 from math import gcd
 
 NOTHING = (0, 1)
+WHOLE = (1, 1)
 
 
 def fraction(top, under):
@@ -33,9 +34,25 @@ def many(number, amount):
     return fraction(number * amount[0], amount[1])
 
 
+def worth_of(numbers, worths):
+    """Return what whole numbers of stuffs are worth in all, at so much each."""
+    total = NOTHING
+    for number, worth in zip(numbers, worths):
+        total = plus(total, many(number, worth))
+    return total
+
+
 def part(amount, number):
     """Return a fraction divided by a whole number above 0."""
     return fraction(amount[0], amount[1] * number)
+
+
+def common_divisor(numbers):
+    """Return the greatest whole number that divides some whole numbers, 1 if they all are 0."""
+    common = 0
+    for number in numbers:
+        common = gcd(common, number)
+    return max(common, 1)
 
 
 def is_less(one, other):

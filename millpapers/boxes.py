@@ -3,7 +3,7 @@
 from millpapers.amounts import NOTHING, is_less
 from millpapers.errors import InvalidBox, InvalidChain
 from millpapers.kinds import is_amount, is_list_of, is_list_within, is_tuple_of
-from millpapers.steps import fits_room
+from millpapers.steps import Trip, fits_room, is_row_of
 
 LEAST_BOXES = 2
 MOST_BOXES = 5
@@ -32,6 +32,17 @@ def need_chain(tables, chain):
 def lies_in(have, box):
     """Return whether holdings of the mill lie in a box of it."""
     return all([_is_between(amount, low, high) for amount, (low, high) in zip(have, box)])
+
+
+def end_in(tables, have, value, box):
+    """Return where a value leads from some holdings if it is a row that can be done and leads into a box, or None."""
+    if not is_row_of(tables, value):
+        return None
+    trip = Trip(tables, have, value)
+    if not trip.can_be_done():
+        return None
+    end = trip.end()
+    return end if lies_in(end, box) else None
 
 
 def bounds_of(tables, chain):

@@ -80,6 +80,18 @@ def climb(cone, wanted):
     return found, missing
 
 
+def prices_of(cone, weights):
+    """Return prices of variables of which the sum of all, times their prices, is nothing whatever they are.
+
+    Where no free variable raises the sum of the variables times their weights any more, the price of each variable is
+    at least its weight times the scale, and not below 0.
+    """
+    prices = {variable: weight * cone.scale for variable, weight in weights.items()}
+    for variable, slope in zip(cone.free, cone.slopes(weights)):
+        prices[variable] = prices.get(variable, 0) - slope
+    return prices
+
+
 def settle(cone, fixed):
     """Go to where one variable is free and all others fit if it alone is above 0, as it must be able to be."""
     column = find_ray(cone, {fixed: 1})

@@ -1,14 +1,14 @@
 """Chains of boxes: courses through them, bars of them, and what courses do and have."""
 
-from millpapers.boxes import lies_in, nailed, need_box, need_chain
-from millpapers.errors import InvalidList, InvalidNumber, UnknownName
+from millpapers.boxes import end_in, lies_in, nailed, need_box, need_chain
+from millpapers.errors import InvalidList, InvalidNumber
 from millpapers.kinds import is_above_nothing, is_amount, is_list_of, is_tuple_of, is_whole_within
 from millpapers.mills import need_mill
-from millpapers.steps import Trip, fits_room, is_holdings, is_row_of, need_holdings
+from millpapers.steps import fits_room, is_holdings, need_holdings
 from millpapers.tables import tables_of
 from millpapers.turns import can_be_had, gone_on, has_space, row_between_ends
 from millpapers.verdicts import Verdict
-from millpapers.walks import Walk, begin_order
+from millpapers.walks import are_bars, begin_order
 
 
 def course(mill, chain):
@@ -34,25 +34,15 @@ def is_course(mill, chain, value):
     if not lies_in(now, chain[0]):
         return False
     for row, box in zip(value[1], chain[1:]):
-        if not is_row_of(tables, row):
-            return False
-        trip = Trip(tables, now, row)
-        now = trip.end()
-        if not trip.can_be_done() or not lies_in(now, box):
+        now = end_in(tables, now, row, box)
+        if now is None:
             return False
     return True
 
 
 def is_bars(mill, chain, value):
     """Return whether a value is bars of a chain."""
-    tables = _need_mill_and_chain(mill, chain)
-    if not isinstance(value, list) or not value:
-        return False
-    walk = Walk(tables, chain)
-    for stage in value[:-1]:
-        if not walk.takes_stage(stage):
-            return False
-    return walk.takes_last(value[-1])
+    return are_bars(_need_mill_and_chain(mill, chain), chain, value)
 
 
 def row_to(mill, have, goal):
@@ -142,12 +132,10 @@ def _extreme(mill, chain, at, stuff, sign):
     tables = _need_mill_and_chain(mill, chain)
     if not is_whole_within(at, 0, len(chain) - 1):
         raise InvalidNumber(at)
-    if not isinstance(stuff, str) or stuff not in tables.stuff_names:
-        raise UnknownName(stuff)
+    place = tables.place_of_stuff(stuff)
     verdict = Verdict(tables, chain)
     if not verdict.has_course():
         return None
-    place = tables.stuff_names.index(stuff)
     bound = verdict.extreme(at, place, sign)
     if bound is None:
         return (None, False)

@@ -1,9 +1,9 @@
 """All amounts and holdings that fit a chain by sums, as a cone: they and a scale, as great as one likes."""
 
-from math import gcd, lcm
+from math import lcm
 
-from millpapers.amounts import NOTHING, fraction, plus
-from millpapers.cones import Cone
+from millpapers.amounts import NOTHING, common_divisor, fraction, plus
+from millpapers.cones import Cone, prices_of
 
 
 class Flow:
@@ -48,16 +48,13 @@ class Flow:
 
     def worths(self, missing):
         """Return worths that show that the missing variables can't be above 0, where a climb ended with these."""
-        prices = self._prices(missing)
+        prices = prices_of(self.cone, missing)
         behind = [0] * len(self.tables.rooms)
         worths = []
-        common = 0
         for box in range(len(self.bounds) - 1, 0, -1):
             behind = [worth + self._difference(prices, (box, stuff)) for stuff, worth in enumerate(behind)]
             worths.append(behind)
-            for worth in behind:
-                common = gcd(common, worth)
-        common = max(common, 1)
+        common = common_divisor([worth for mine in worths for worth in mine])
         return [[(worth // common, 1) for worth in mine] for mine in reversed(worths)]
 
     def meant(self, number, scale):
@@ -123,14 +120,6 @@ class Flow:
         """Return the difference of a stuff in a box, of the worths that the prices come to."""
         below = prices.get(self.below[key], 0) if key in self.below else 0
         return prices.get(self.above[key], 0) - below
-
-    def _prices(self, missing):
-        """Return for each free variable by how much the sum of the missing ones falls short of it."""
-        slopes = self.cone.slopes({variable: 1 for variable in missing})
-        prices = {variable: self.cone.scale for variable in missing}
-        for variable, slope in zip(self.cone.free, slopes):
-            prices[variable] = prices.get(variable, 0) - slope
-        return prices
 
 
 def _common_under(bounds):

@@ -1,5 +1,7 @@
 """The numbers of a mill by the places of its stuffs and recipes, as all reckoning reads them."""
 
+from millpapers.errors import UnknownName
+
 
 class Tables:
     """Rooms, takes, gives and nets (gives less takes) of a mill, or of the mill turned."""
@@ -15,6 +17,12 @@ class Tables:
     def place_of(self, recipe):
         """Return the place of the recipe with a name."""
         return self.recipe_names.index(recipe)
+
+    def place_of_stuff(self, stuff):
+        """Return the place of the stuff with a name; raise UnknownName unless there is one."""
+        if not isinstance(stuff, str) or stuff not in self.stuff_names:
+            raise UnknownName(stuff)
+        return self.stuff_names.index(stuff)
 
     def backward(self):
         """Return the tables in which each recipe takes what it gave, and gives what it took."""

@@ -1,6 +1,6 @@
 """The walk of stages: which recipes they leave possible, and which stuffs they show to be nothing or full."""
 
-from millpapers.amounts import NOTHING, many, minus, plus, product_of
+from millpapers.amounts import NOTHING, minus, plus, product_of, worth_of
 from millpapers.boxes import bounds_of, is_full_there, is_nothing_there
 from millpapers.kinds import is_fraction, is_list_of, is_tuple_of, is_whole_within
 
@@ -10,7 +10,7 @@ class Walk:
 
     def __init__(self, tables, chain):
         self.tables = tables
-        self.back = tables.backward()
+        self.mirror = tables.backward()
         self.bounds = bounds_of(tables, chain)
         self.legs = len(chain) - 1
         recipes = len(tables.recipe_names)
@@ -56,7 +56,7 @@ class Walk:
     def ended(self, leg):
         """Return the places of the possible recipes that can be last, the last one first."""
         had, space = self._open_in(leg + 1)
-        return begin_order(self.back, self.left_in(leg), had, space)
+        return begin_order(self.mirror, self.left_in(leg), had, space)
 
     def is_worths(self, value):
         """Return whether a value is worths, whatever they show."""
@@ -79,10 +79,7 @@ class Walk:
 
     def gained(self, worths, leg, recipe):
         """Return what a recipe gains in a leg."""
-        total = NOTHING
-        for worth, number in zip(worths[leg], self.tables.nets[recipe]):
-            total = plus(total, many(number, worth))
-        return total
+        return worth_of(self.tables.nets[recipe], worths[leg])
 
     def _open_in(self, box):
         """Return which stuffs can be had in a box, and which have space there."""
@@ -122,6 +119,17 @@ def difference(worths, box, stuff):
     ahead = worths[box - 1][stuff] if box > 0 else NOTHING
     behind = worths[box][stuff] if box < len(worths) else NOTHING
     return minus(ahead, behind)
+
+
+def are_bars(tables, chain, value):
+    """Return whether a value is bars of a chain."""
+    if not isinstance(value, list) or not value:
+        return False
+    walk = Walk(tables, chain)
+    for stage in value[:-1]:
+        if not walk.takes_stage(stage):
+            return False
+    return walk.takes_last(value[-1])
 
 
 def begin_order(tables, recipes, had, space):

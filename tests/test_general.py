@@ -8,6 +8,7 @@ import unittest
 from millpapers.courses import bars, bottom, course, is_bars, is_course, may, narrow, row_bars, row_of, row_to, top
 from millpapers.mills import Mill, turned
 from millpapers.rows import done, is_row, led, narrows
+from millpapers.worths import fair, gain, growing, is_fair, is_loop, loop, rate, rate_brew, rate_prices, seeds
 from tests.makers import FREE, NONE, nailed
 
 INTERFACE = {
@@ -20,6 +21,10 @@ INTERFACE = {
         "is_bars": ["mill", "chain", "value"], "row_to": ["mill", "have", "goal"], "row_bars": ["mill", "have", "goal"],
         "may": ["mill", "chain"], "top": ["mill", "chain", "at", "stuff"], "bottom": ["mill", "chain", "at", "stuff"],
         "row_of": ["mill", "have", "amounts"], "narrow": ["mill", "have", "goal", "width"]},
+    "millpapers.worths": {
+        "gain": ["mill", "brew"], "fair": ["mill"], "loop": ["mill"], "is_fair": ["mill", "value"],
+        "is_loop": ["mill", "value"], "rate": ["mill", "one", "other"], "rate_brew": ["mill", "one", "other"],
+        "rate_prices": ["mill", "one", "other"], "seeds": ["mill", "have", "goal"], "growing": ["mill", "have"]},
 }
 
 MILL = Mill([("a", None), ("b", 3)], [("r", [("a", 1)], [("b", 1)]), ("w", [("b", 2)], []), ("o", [], [])])
@@ -55,6 +60,26 @@ def calls():
     yield row_of, [MILL, [(2, 1), (3, 1)], [(1, 1), (0, 1), (0, 1)]]
     yield row_of, [MILL, [(1, 1), (0, 1)], [(1, 1), (1, 2), (0, 1)]]
     yield narrow, [MILL, have, goal, (1, 8)]
+    yield from calls_of_worths()
+
+
+def calls_of_worths():
+    ring = Mill([("x", None), ("a", None)], [("g", [("x", 1)], [("x", 2)]), ("r", [("a", 2)], [("x", 1)])])
+    yield gain, [MILL, [("r", (1, 2)), ("w", (1, 8))]]
+    yield gain, [MILL, []]
+    for mill in (MILL, ring):
+        yield fair, [mill]
+        yield loop, [mill]
+        for function in (rate, rate_brew, rate_prices):
+            yield function, [mill, "a", mill.stuffs()[1][0]]
+    yield is_fair, [MILL, fair(MILL)]
+    yield is_loop, [ring, loop(ring)]
+    yield rate_brew, [MILL, "a", "b"]
+    yield rate_prices, [MILL, "b", "b"]
+    crew = Mill([("a", None), ("b", 3), ("c", 1)], [("r", [("a", 1), ("c", 1)], [("b", 1), ("c", 1)])])
+    yield seeds, [crew, [(1, 1), (0, 1), (0, 1)], [FREE, nailed(1), FREE]]
+    yield seeds, [crew, [(1, 1), (0, 1), (0, 1)], [FREE, FREE, FREE]]
+    yield growing, [ring, [(1, 1), (0, 1)]]
 
 
 def lists_in(value):

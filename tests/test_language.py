@@ -28,7 +28,7 @@ BARRED = set("""register mro elements open input law version_info with_traceback
 compile copyright credits delattr dir eval exec exit gc getattr globals hasattr help id importlib license locals
 methodcaller os quit setattr type vars sys typing enum dataclass overload contextmanager""".split())
 DUNDERS = {"__init__", "__eq__", "__repr__", "__str__", "__len__"}
-ITERATED = {"zip", "enumerate", "reversed", "range", "map"}
+ITERATED = {"zip", "enumerate", "reversed", "range", "map", "product", "combinations", "permutations"}
 TAKERS = {"list", "tuple", "dict", "sorted", "sum", "any", "all", "enumerate", "zip", "min", "max", "len"}
 STATEMENTS = (ast.Assign, ast.AugAssign, ast.If, ast.While, ast.For, ast.Return, ast.Break, ast.Continue, ast.Pass,
               ast.Raise, ast.Delete, ast.Expr, ast.FunctionDef, ast.ClassDef, ast.ImportFrom, ast.Try,
@@ -232,7 +232,7 @@ class LanguageTest(unittest.TestCase):
                     self.assertIs(above.comparators[0], node, at)
                 else:
                     self.assertIsInstance(above, ast.Call, at)
-                    self.assertIn(getattr(above.func, "id", None), TAKERS | {"reversed"}, at)
+                    self.assertIn(getattr(above.func, "id", None), TAKERS | {"reversed", "combinations"}, at)
                     self.assertIs(above.args[0], node, at)
 
     def test_loops_change_nothing_that_they_iterate_over(self):

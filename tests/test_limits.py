@@ -8,6 +8,7 @@ from fractions import Fraction
 from millpapers.courses import bars, bottom, course, is_bars, is_course, may, narrow, row_bars, row_of, row_to, top
 from millpapers.mills import Mill, turned
 from millpapers.rows import done, is_row, led, narrows
+from millpapers.worths import fair, growing, loop, rate, rate_brew, rate_prices, seeds
 from tests.looker import number, pair
 from tests.makers import looker_of
 
@@ -125,6 +126,29 @@ class LimitsTest(unittest.TestCase):
             self.timed(led, mill, [(10 ** 300 - 1, 1)] * 8, row)
             self.timed(narrows, mill, [(10 ** 300 - 1, 1)] * 8, row)
             self.timed(done, mill, row)
+
+    def test_worths(self):
+        chance, told = random.Random(44), []
+        for _ in range(10):
+            mill = full_mill(chance, 8, 8, [None, GREATEST])
+            self.assertNotEqual(self.timed(fair, mill) is None, self.timed(loop, mill) is None)
+            have = [long_amount(chance, 0, GREATEST) for _ in range(8)]
+            self.timed(growing, mill, have)
+            for other in ("s0", "s1", "s7"):
+                most = self.timed(rate, mill, "s0", other)
+                told.append(most)
+                self.assertEqual(self.timed(rate_brew, mill, "s0", other) is None, most is None)
+                self.assertEqual(self.timed(rate_prices, mill, "s0", other) is None, most is None)
+        self.assertGreater(min(told.count(None), len(told) - told.count(None)), 3)
+
+    def test_seeds(self):
+        chance, told = random.Random(45), []
+        for _ in range(20):
+            mill = full_mill(chance, 4, 8, [None, GREATEST])
+            have = [chance.choice([(0, 1), long_amount(chance, 0, GREATEST)]) for _ in range(4)]
+            goal = [((0, 1), None)] * 2 + long_spans(chance, mill, 9)[2:]
+            told += self.timed(seeds, mill, have, goal)
+        self.assertGreater(len(told), 5)
 
 
 if __name__ == "__main__":

@@ -1,7 +1,7 @@
 """Values of the wrong kinds, each with the error that the document names and what its field holds."""
 
-from millpapers.errors import InvalidBox, InvalidChain, InvalidHoldings, InvalidList, InvalidMill, InvalidNumber
-from millpapers.errors import InvalidRow, UnknownName
+from millpapers.errors import InvalidBox, InvalidBrew, InvalidChain, InvalidHoldings, InvalidList, InvalidMill
+from millpapers.errors import InvalidNumber, InvalidRow, UnknownName
 from millpapers.mills import Mill
 
 SPARE = Mill([("q", None)], [])
@@ -105,6 +105,22 @@ def bad_lists_of_amounts(good):
     for place in range(len(good)):
         values += [replaced(good, place, amount) for amount in NO_AMOUNTS]
     return [(value, InvalidList, value) for value in values]
+
+
+def no_brews(one, other):
+    """Values that are no brews of any mill in which these two recipes stand in this order."""
+    good = [(one, (1, 2)), (other, (3, 1))]
+    values = [value for value in ODD if value != []]
+    values += [tuple(good), good[::-1], [good[0], good[0]], good + good[1:], good + good[:1], good[0], {one: (1, 2)}]
+    values += [[bad] for bad in ODD] + [[good[0], bad] for bad in ODD]
+    values += [[bad] for bad in [[one, (1, 2)], (one,), (one, (1, 2), 1), ("nobody", (1, 2)), ((1, 2), one)]]
+    values += [[(bad, (1, 2))] for bad in [None, True, 0, [one], (one,), {}, SPARE, "", one + "x"]]
+    values += [[(one, amount)] for amount in NO_STEPS_AMOUNTS] + [[good[0], (other, bad)] for bad in NO_STEPS_AMOUNTS]
+    return values
+
+
+def bad_brews(one, other):
+    return [(value, InvalidBrew, value) for value in no_brews(one, other)]
 
 
 def check_arguments(test, function, arguments):

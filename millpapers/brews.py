@@ -1,0 +1,79 @@
+"""Brews of a mill: which values they are, what they gain, and all of them as a cone."""
+
+from millpapers.amounts import NOTHING, common_divisor, fraction, many, plus
+from millpapers.cones import Cone, climb, prices_of, rise
+from millpapers.kinds import is_above_nothing, is_tuple_of
+
+
+class Brewery:
+    """All brews that, together with a start times a scale, leave nothing below nothing, as a cone.
+
+    The variables are the scale, the amount of each recipe, and what is left of each stuff.
+    """
+
+    def __init__(self, tables, start):
+        recipes = len(tables.recipe_names)
+        self.recipe_names = tables.recipe_names
+        self.scale = 0
+        self.amounts = list(range(1, recipes + 1))
+        self.left = list(range(recipes + 1, recipes + 1 + len(start)))
+        rows = [[number, *[net[stuff] for net in tables.nets]] for stuff, number in enumerate(start)]
+        self.cone = Cone(self.left, [self.scale, *self.amounts], rows)
+
+    def loop(self):
+        """Return a brew that leaves more than nothing of some stuff, where there was none at first; None if none."""
+        found, missing = climb(self.cone, self.left)
+        if len(missing) == len(self.left):
+            return None
+        return self._brew(found, common_divisor([found.get(amount, 0) for amount in self.amounts]))
+
+    def fair_prices(self):
+        """Return prices above nothing at which no recipe gains, where there was none at first; None if none."""
+        _, missing = climb(self.cone, self.left)
+        if len(missing) < len(self.left):
+            return None
+        prices = prices_of(self.cone, missing)
+        common = common_divisor([prices[stuff] for stuff in self.left])
+        return [(prices[stuff] // common, 1) for stuff in self.left]
+
+    def most(self, stuff):
+        """Return how much of a stuff can be left of the start alone, None if there is no bound."""
+        return rise(self.cone, self.scale, {self.left[stuff]: 1})
+
+    def most_brew(self):
+        """Return the brew that leaves as much as `most` has told."""
+        found = self.cone.ray(self.cone.free.index(self.scale))
+        return self._brew(found, found[self.scale])
+
+    def most_prices(self, stuff):
+        """Return prices, 1 for the stuff, at which no recipe gains and the start is worth what `most` has told."""
+        prices = prices_of(self.cone, {self.left[stuff]: 1})
+        unit = prices[self.left[stuff]]
+        return [fraction(prices.get(other, 0), unit) for other in self.left]
+
+    def _brew(self, found, unit):
+        amounts = [fraction(found.get(amount, 0), unit) for amount in self.amounts]
+        return [(name, amount) for name, amount in zip(self.recipe_names, amounts) if amount != NOTHING]
+
+
+def is_brew(tables, value):
+    """Return whether a value is a brew of the mill."""
+    if not isinstance(value, list):
+        return False
+    rest = list(tables.recipe_names)
+    for dose in value:
+        if not is_tuple_of(dose, 2) or not isinstance(dose[0], str) or dose[0] not in rest:
+            return False
+        if not is_above_nothing(dose[1]):
+            return False
+        rest = rest[rest.index(dose[0]) + 1:]
+    return True
+
+
+def gain_of(tables, brew):
+    """Return what a brew gives of each stuff less what it takes."""
+    gain = [NOTHING] * len(tables.rooms)
+    for recipe, amount in brew:
+        net = tables.nets[tables.place_of(recipe)]
+        gain = [plus(sum_so_far, many(number, amount)) for sum_so_far, number in zip(gain, net)]
+    return gain
