@@ -21,6 +21,13 @@ def need_box(tables, box):
         raise InvalidBox(box)
 
 
+def need_closed(tables, box):
+    """Raise InvalidBox unless the argument is a closed box of the mill."""
+    need_box(tables, box)
+    if any([high is None for _, high in box]):
+        raise InvalidBox(box)
+
+
 def need_chain(tables, chain):
     """Raise InvalidChain unless the argument is a list of 2 to 5 items, then InvalidBox with the first that is none."""
     if not is_list_within(chain, LEAST_BOXES, MOST_BOXES):

@@ -1,13 +1,13 @@
 """Chains of boxes: courses through them, bars of them, and what courses do and have."""
 
-from millpapers.boxes import end_in, lies_in, nailed, need_box, need_chain
+from millpapers.boxes import end_in, lies_in, need_box, need_chain
 from millpapers.errors import InvalidList, InvalidNumber
 from millpapers.kinds import is_above_nothing, is_amount, is_list_of, is_tuple_of, is_whole_within
 from millpapers.mills import need_mill
 from millpapers.steps import fits_room, is_holdings, need_holdings
 from millpapers.tables import tables_of
 from millpapers.turns import can_be_had, gone_on, has_space, row_between_ends
-from millpapers.verdicts import Verdict
+from millpapers.verdicts import Verdict, verdict_between
 from millpapers.walks import are_bars, begin_order
 
 
@@ -48,7 +48,7 @@ def is_bars(mill, chain, value):
 def row_to(mill, have, goal):
     """Return any row from some holdings into a box, None if there is none."""
     verdict = _verdict_between(mill, have, goal)
-    return verdict.rows_within(None)[0] if verdict.has_course() else None
+    return verdict.first_row() if verdict.has_course() else None
 
 
 def row_bars(mill, have, goal):
@@ -101,7 +101,7 @@ def narrow(mill, have, goal, width):
     tables = _need_ends(mill, have, goal)
     if not is_above_nothing(width):
         raise InvalidNumber(width)
-    verdict = Verdict(tables, [nailed(have), goal])
+    verdict = verdict_between(tables, have, goal)
     return verdict.rows_within(width)[0] if verdict.has_course() else None
 
 
@@ -125,7 +125,7 @@ def _verdict_of(mill, chain):
 
 
 def _verdict_between(mill, have, goal):
-    return Verdict(_need_ends(mill, have, goal), [nailed(have), goal])
+    return verdict_between(_need_ends(mill, have, goal), have, goal)
 
 
 def _extreme(mill, chain, at, stuff, sign):

@@ -1,6 +1,7 @@
 """The search that ends with a course through a chain, or with bars of it."""
 
 from millpapers.amounts import plus
+from millpapers.boxes import nailed
 from millpapers.cones import climb, rise, settle
 from millpapers.flows import Flow
 from millpapers.turns import row_between_ends
@@ -31,6 +32,10 @@ class Verdict:
         for leg, amounts in enumerate(self.amounts):
             rows.append(row_between_ends(self.tables, self.holdings[leg], self.holdings[leg + 1], amounts, width))
         return rows
+
+    def first_row(self):
+        """Return the row of the first leg."""
+        return self.rows_within(None)[0]
 
     def extreme(self, at, stuff, sign):
         """Return the bound of what courses have of a stuff in a box, the greatest or, if sign is -1, the least one.
@@ -75,3 +80,8 @@ class Verdict:
             return False
         self.stages.append(stage)
         return True
+
+
+def verdict_between(tables, have, goal):
+    """Return the verdict of the chain of just some holdings and a box."""
+    return Verdict(tables, [nailed(have), goal])

@@ -3,7 +3,7 @@
 from itertools import combinations
 
 from millpapers.amounts import worth_of
-from millpapers.boxes import nailed, need_box
+from millpapers.boxes import need_box
 from millpapers.brews import Brewery, gain_of, is_brew
 from millpapers.errors import InvalidBrew
 from millpapers.kinds import is_above_nothing, is_list_of
@@ -11,7 +11,7 @@ from millpapers.loans import leads_with_a_bit
 from millpapers.mills import need_mill
 from millpapers.steps import need_holdings
 from millpapers.tables import tables_of
-from millpapers.verdicts import Verdict
+from millpapers.verdicts import verdict_between
 
 ANY = ((0, 1), None)
 
@@ -94,7 +94,7 @@ def growing(mill, have):
     need_mill(mill)
     tables = tables_of(mill)
     need_holdings(tables, have)
-    verdict = Verdict(tables, [nailed(have), [ANY] * len(have)])
+    verdict = verdict_between(tables, have, [ANY] * len(have))
     return [name for stuff, name in enumerate(tables.stuff_names) if verdict.extreme(1, stuff, 1) is None]
 
 

@@ -6,6 +6,7 @@ import inspect
 import unittest
 
 from millpapers.courses import bars, bottom, course, is_bars, is_course, may, narrow, row_bars, row_of, row_to, top
+from millpapers.forall import always, edges, from_all, is_always, is_from_all, row_between, row_from
 from millpapers.mills import Mill, turned
 from millpapers.rows import done, is_row, led, narrows
 from millpapers.worths import fair, gain, growing, is_fair, is_loop, loop, rate, rate_brew, rate_prices, seeds
@@ -25,6 +26,10 @@ INTERFACE = {
         "gain": ["mill", "brew"], "fair": ["mill"], "loop": ["mill"], "is_fair": ["mill", "value"],
         "is_loop": ["mill", "value"], "rate": ["mill", "one", "other"], "rate_brew": ["mill", "one", "other"],
         "rate_prices": ["mill", "one", "other"], "seeds": ["mill", "have", "goal"], "growing": ["mill", "have"]},
+    "millpapers.forall": {
+        "edges": ["mill", "box"], "always": ["mill", "haves", "ends"], "is_always": ["mill", "haves", "ends", "value"],
+        "row_between": ["mill", "haves", "ends", "rows", "have", "end"], "from_all": ["mill", "haves", "goal"],
+        "is_from_all": ["mill", "haves", "goal", "value"], "row_from": ["mill", "haves", "goal", "rows", "have"]},
 }
 
 MILL = Mill([("a", None), ("b", 3)], [("r", [("a", 1)], [("b", 1)]), ("w", [("b", 2)], []), ("o", [], [])])
@@ -61,6 +66,7 @@ def calls():
     yield row_of, [MILL, [(1, 1), (0, 1)], [(1, 1), (1, 2), (0, 1)]]
     yield narrow, [MILL, have, goal, (1, 8)]
     yield from calls_of_worths()
+    yield from calls_of_forall()
 
 
 def calls_of_worths():
@@ -80,6 +86,27 @@ def calls_of_worths():
     yield seeds, [crew, [(1, 1), (0, 1), (0, 1)], [FREE, nailed(1), FREE]]
     yield seeds, [crew, [(1, 1), (0, 1), (0, 1)], [FREE, FREE, FREE]]
     yield growing, [ring, [(1, 1), (0, 1)]]
+
+
+def calls_of_forall():
+    haves, ends, goal = [((1, 1), (2, 1)), NONE], [NONE, ((1, 2), (1, 1))], [FREE, ((1, 2), None)]
+    far, high = [NONE, ((1, 1), (3, 1))], [FREE, ((3, 2), None)]
+    yield edges, [MILL, haves]
+    yield always, [MILL, haves, ends]
+    yield always, [MILL, haves, far]
+    yield always, [MILL, [NONE, NONE], [NONE, NONE]]
+    rows = always(MILL, haves, ends)[1]
+    yield is_always, [MILL, haves, ends, ("always", rows)]
+    yield is_always, [MILL, haves, far, always(MILL, haves, far)]
+    yield row_between, [MILL, haves, ends, rows, [(3, 2), (0, 1)], [(0, 1), (3, 4)]]
+    yield row_between, [MILL, haves, ends, rows, [(2, 1), (0, 1)], [(0, 1), (1, 1)]]
+    yield from_all, [MILL, haves, goal]
+    yield from_all, [MILL, haves, high]
+    rows = from_all(MILL, haves, goal)[1]
+    yield is_from_all, [MILL, haves, goal, ("always", rows)]
+    yield is_from_all, [MILL, haves, high, from_all(MILL, haves, high)]
+    yield row_from, [MILL, haves, goal, rows, [(3, 2), (0, 1)]]
+    yield row_from, [MILL, haves, goal, rows, [(1, 1), (0, 1)]]
 
 
 def lists_in(value):

@@ -6,6 +6,7 @@ import unittest
 from fractions import Fraction
 
 from millpapers.courses import bars, bottom, course, is_bars, is_course, may, narrow, row_bars, row_of, row_to, top
+from millpapers.forall import always, from_all, is_always, is_from_all, row_between, row_from
 from millpapers.mills import Mill, turned
 from millpapers.rows import done, is_row, led, narrows
 from millpapers.worths import fair, growing, loop, rate, rate_brew, rate_prices, seeds
@@ -149,6 +150,59 @@ class LimitsTest(unittest.TestCase):
             goal = [((0, 1), None)] * 2 + long_spans(chance, mill, 9)[2:]
             told += self.timed(seeds, mill, have, goal)
         self.assertGreater(len(told), 5)
+
+    def test_forall(self):
+        chance, words = random.Random(46), []
+        for turn in range(16):
+            # Each stuff can be spilled and come to without bound, or else only by the recipes of the mill.
+            mill = full_mill(chance, 8, 8, [None, GREATEST])
+            haves = [(amount, amount) for amount in [long_amount(chance, 0, 99) for _ in range(8)]]
+            ends, goal = list(haves), [((0, 1), None)] * 7 + [((0, 1), long_amount(chance, 0, 99))]
+            for place in range(2):
+                haves[place] = ((0, 1), long_amount(chance, 1, 99))
+                ends[place + 2] = (long_amount(chance, 0, 9), long_amount(chance, 10, 99))
+            if turn % 2:
+                haves, ends = [(low, low) for low, _ in haves], [(low, low) for low, _ in haves]
+                haves[0] = ends[0]
+            told = self.timed(always, mill, haves, ends)
+            self.assertTrue(self.timed(is_always, mill, haves, ends, told))
+            words.append(told[0])
+            if told[0] == "always":
+                have, end = [low for low, _ in haves], [low for low, _ in ends]
+                self.timed(row_between, mill, haves, ends, told[1], have, end)
+            wide = [((0, 1), long_amount(chance, 1, 99))] * 4 + haves[4:]
+            told = self.timed(from_all, mill, wide, goal)
+            self.assertTrue(self.timed(is_from_all, mill, wide, goal, told))
+            words.append(told[0])
+            if told[0] == "always":
+                have = [pair(number(high) / 7) for _, high in wide[:4]] + [low for low, _ in wide[4:]]
+                row = self.timed(row_from, mill, wide, goal, told[1], have)
+                self.assertTrue(is_row(mill, have, row))
+        self.assertGreater(min(words.count("always"), words.count("not")), 5)
+
+    def test_always_with_many_rows(self):
+        chance = random.Random(47)
+        names = ["s%d" % n for n in range(8)]
+        pairs = [("r%d" % n, [(names[n], chance.randrange(9 * 10 ** 5, GREATEST))],
+                  [(name, chance.randrange(9 * 10 ** 5, GREATEST)) for name in names if name != names[n]])
+                 for n in range(8)]
+        mill = Mill([(name, None) for name in names], pairs)
+        spill = Mill([(name, None) for name in names[:4]],
+                     [("r%d" % n, [(name, 10 ** 6 - n)], []) for n, name in enumerate(names[:4])]
+                     + [("q%d" % n, [], [(name, 10 ** 6 - n)]) for n, name in enumerate(names[:4])])
+        bits = [(long_amount(chance, 1, 2), long_amount(chance, 3, 9)) for _ in range(4)]
+        fixed = [(amount, amount) for amount in [long_amount(chance, 1, 9) for _ in range(4)]]
+        for haves, ends in ((bits, fixed), (bits[:2] + fixed[2:], fixed[:2] + bits[2:]), (fixed, bits)):
+            told = self.timed(always, spill, haves, ends)
+            self.assertEqual(told[0], "always")
+            self.assertTrue(self.timed(is_always, spill, haves, ends, told))
+            have, end = [pair((number(low) + number(high)) / 2) for low, high in haves], [low for low, _ in ends]
+            row = self.timed(row_between, spill, haves, ends, told[1], have, end)
+            self.assertEqual(self.timed(led, spill, have, row), end)
+            goal = [((0, 1), None)] * 4 + [((10 ** 14, 1), None)] * 4
+            told = self.timed(from_all, mill, haves + fixed, goal)
+            self.assertTrue(self.timed(is_from_all, mill, haves + fixed, goal, told))
+            self.assertEqual(told[0], "always")
 
 
 if __name__ == "__main__":

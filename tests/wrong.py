@@ -57,6 +57,12 @@ def bad_boxes(good):
     return [(value, InvalidBox, value) for value in no_boxes(good)]
 
 
+def bad_closed_boxes(good):
+    """Values that are no closed boxes of a mill of which this is one."""
+    bad = no_boxes(good) + [replaced(good, place, (low, None)) for place, (low, _) in enumerate(good)]
+    return [(value, InvalidBox, value) for value in bad]
+
+
 def bad_chains(good):
     values = [value for value in ODD] + [tuple(good), good[:1], (good * 3)[:6], good[0][0], {"a": good}]
     bad = [(value, InvalidChain, value) for value in values]
@@ -84,6 +90,19 @@ def no_rows(recipe):
 def bad_rows(recipe, too_much):
     """Values that are no rows that can be done, some of them rows of the mill that do too much."""
     return [(value, InvalidRow, value) for value in no_rows(recipe) + too_much]
+
+
+def papers_without(good, words):
+    """Values that are no papers, near one that is a tuple of a word and more."""
+    values = list(ODD) + [list(good), good[:-1], good + (None,), good[1:], good[::-1], (good,), [good], ()]
+    values += [(word, *good[1:]) for word in words if word != good[0]]
+    values += [replaced_in(good, place, value) for place in range(len(good)) for value in ODD]
+    return values
+
+
+def replaced_in(items, place, item):
+    """A new tuple with one item in the place of another."""
+    return (*items[:place], item, *items[place + 1:])
 
 
 def bad_numbers(most):
