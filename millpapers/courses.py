@@ -3,7 +3,6 @@
 from millpapers.boxes import end_in, lies_in, need_box, need_chain
 from millpapers.errors import InvalidList, InvalidNumber
 from millpapers.kinds import is_above_nothing, is_amount, is_list_of, is_tuple_of, is_whole_within
-from millpapers.mills import need_mill
 from millpapers.steps import fits_room, is_holdings, need_holdings
 from millpapers.tables import tables_of
 from millpapers.turns import can_be_had, gone_on, has_space, row_between_ends
@@ -78,7 +77,6 @@ def bottom(mill, chain, at, stuff):
 
 def row_of(mill, have, amounts):
     """Tell a row from some holdings that does just so much of each recipe, or what bars it."""
-    need_mill(mill)
     tables = tables_of(mill)
     need_holdings(tables, have)
     if not is_list_of(amounts, len(tables.recipe_names)) or not all([is_amount(amount) for amount in amounts]):
@@ -106,14 +104,12 @@ def narrow(mill, have, goal, width):
 
 
 def _need_mill_and_chain(mill, chain):
-    need_mill(mill)
     tables = tables_of(mill)
     need_chain(tables, chain)
     return tables
 
 
 def _need_ends(mill, have, goal):
-    need_mill(mill)
     tables = tables_of(mill)
     need_holdings(tables, have)
     need_box(tables, goal)

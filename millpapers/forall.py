@@ -3,7 +3,6 @@
 from millpapers.boxes import end_in, lies_in, nailed, need_box, need_closed
 from millpapers.errors import InvalidHoldings, InvalidRow
 from millpapers.kinds import is_list_of, is_tuple_of
-from millpapers.mills import need_mill
 from millpapers.mixes import corners, mixed_row, shares
 from millpapers.steps import is_holdings
 from millpapers.tables import tables_of
@@ -13,7 +12,6 @@ from millpapers.walks import are_bars
 
 def edges(mill, box):
     """Return the holdings that have of each stuff the low or the high of a closed box, in order."""
-    need_mill(mill)
     need_closed(tables_of(mill), box)
     return corners(box)
 
@@ -89,7 +87,6 @@ def row_from(mill, haves, goal, rows, have):
 
 
 def _need_two_closed(mill, haves, ends):
-    need_mill(mill)
     tables = tables_of(mill)
     need_closed(tables, haves)
     need_closed(tables, ends)
@@ -97,7 +94,6 @@ def _need_two_closed(mill, haves, ends):
 
 
 def _need_closed_and_goal(mill, haves, goal):
-    need_mill(mill)
     tables = tables_of(mill)
     need_closed(tables, haves)
     need_box(tables, goal)

@@ -1,7 +1,6 @@
 """Rows: where they lead, whether they can be done, and how little and how much there is meanwhile."""
 
 from millpapers.errors import InvalidRow
-from millpapers.mills import need_mill
 from millpapers.steps import Trip, is_row_of, need_holdings, sums_done
 from millpapers.tables import tables_of
 
@@ -13,7 +12,6 @@ def led(mill, have, row):
 
 def is_row(mill, have, value):
     """Return whether a value is a row that can be done from some holdings."""
-    need_mill(mill)
     tables = tables_of(mill)
     need_holdings(tables, have)
     return is_row_of(tables, value) and Trip(tables, have, value).can_be_done()
@@ -26,7 +24,6 @@ def narrows(mill, have, row):
 
 def done(mill, row):
     """Return the list of the amounts, one for each recipe, that are done of it in all."""
-    need_mill(mill)
     tables = tables_of(mill)
     if not is_row_of(tables, row):
         raise InvalidRow(row)
@@ -34,7 +31,6 @@ def done(mill, row):
 
 
 def _need_trip(mill, have, row):
-    need_mill(mill)
     tables = tables_of(mill)
     need_holdings(tables, have)
     if not is_row_of(tables, row):

@@ -1,6 +1,7 @@
 """The numbers of a mill by the places of its stuffs and recipes, as all reckoning reads them."""
 
 from millpapers.errors import UnknownName
+from millpapers.mills import need_mill
 
 
 class Tables:
@@ -30,6 +31,8 @@ class Tables:
 
 
 def tables_of(mill):
+    """Return the tables of a mill; raise InvalidMill unless the argument is one."""
+    need_mill(mill)
     stuff_names = [name for name, _ in mill.stuffs()]
     rooms = [room for _, room in mill.stuffs()]
     takes = [_numbered(stuff_names, taken) for _, taken, _ in mill.recipes()]

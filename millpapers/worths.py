@@ -8,7 +8,6 @@ from millpapers.brews import Brewery, gain_of, is_brew
 from millpapers.errors import InvalidBrew
 from millpapers.kinds import is_above_nothing, is_list_of
 from millpapers.loans import leads_with_a_bit
-from millpapers.mills import need_mill
 from millpapers.steps import need_holdings
 from millpapers.tables import tables_of
 from millpapers.verdicts import verdict_between
@@ -18,7 +17,6 @@ ANY = ((0, 1), None)
 
 def gain(mill, brew):
     """Return what a brew gives of each stuff in all less what it takes."""
-    need_mill(mill)
     tables = tables_of(mill)
     if not is_brew(tables, brew):
         raise InvalidBrew(brew)
@@ -27,19 +25,16 @@ def gain(mill, brew):
 
 def fair(mill):
     """Return any fair prices of a mill, None if there are none."""
-    need_mill(mill)
     return _from_nothing(mill).fair_prices()
 
 
 def loop(mill):
     """Return any loop of a mill, None if there is none."""
-    need_mill(mill)
     return _from_nothing(mill).loop()
 
 
 def is_fair(mill, value):
     """Return whether a value is fair prices of a mill."""
-    need_mill(mill)
     tables = tables_of(mill)
     if not is_list_of(value, len(tables.rooms)) or not all([is_above_nothing(price) for price in value]):
         return False
@@ -48,7 +43,6 @@ def is_fair(mill, value):
 
 def is_loop(mill, value):
     """Return whether a value is a loop of a mill."""
-    need_mill(mill)
     tables = tables_of(mill)
     if not is_brew(tables, value):
         return False
@@ -76,7 +70,6 @@ def rate_prices(mill, one, other):
 
 def seeds(mill, have, goal):
     """Return all least lists of stuffs with a bit of which, lent, some row from holdings leads into a box."""
-    need_mill(mill)
     tables = tables_of(mill)
     need_holdings(tables, have)
     need_box(tables, goal)
@@ -91,7 +84,6 @@ def seeds(mill, have, goal):
 
 def growing(mill, have):
     """Return the names of the stuffs of which rows from some holdings bring as much as one likes."""
-    need_mill(mill)
     tables = tables_of(mill)
     need_holdings(tables, have)
     verdict = verdict_between(tables, have, [ANY] * len(have))
@@ -106,7 +98,6 @@ def _from_nothing(mill):
 
 def _rated(mill, one, other):
     """Return the rate, all brews from one unit of a stuff, at the best one, and the place of the other stuff."""
-    need_mill(mill)
     tables = tables_of(mill)
     first = tables.place_of_stuff(one)
     second = tables.place_of_stuff(other)

@@ -7,6 +7,8 @@ import unittest
 
 from millpapers.courses import bars, bottom, course, is_bars, is_course, may, narrow, row_bars, row_of, row_to, top
 from millpapers.forall import always, edges, from_all, is_always, is_from_all, row_between, row_from
+from millpapers.library import Library, brinks, can_do, done_from, first_lacking, inner_rows, is_can_do, is_inner_rows
+from millpapers.library import needed, row_over, row_within, stands_for, stands_within, together
 from millpapers.mills import Mill, turned
 from millpapers.rows import done, is_row, led, narrows
 from millpapers.worths import fair, gain, growing, is_fair, is_loop, loop, rate, rate_brew, rate_prices, seeds
@@ -30,6 +32,17 @@ INTERFACE = {
         "edges": ["mill", "box"], "always": ["mill", "haves", "ends"], "is_always": ["mill", "haves", "ends", "value"],
         "row_between": ["mill", "haves", "ends", "rows", "have", "end"], "from_all": ["mill", "haves", "goal"],
         "is_from_all": ["mill", "haves", "goal", "value"], "row_from": ["mill", "haves", "goal", "rows", "have"]},
+    "millpapers.library": {
+        "brinks": ["mill", "recipe"], "can_do": ["mill", "recipe"], "is_can_do": ["mill", "recipe", "value"],
+        "done_from": ["mill", "recipe", "rows", "have", "amount"], "first_lacking": ["mill", "other"],
+        "stands_for": ["mill", "other"], "row_over": ["mill", "other", "have", "row"], "needed": ["mill"],
+        "together": ["one", "other"], "inner_rows": ["mill", "other"], "is_inner_rows": ["mill", "other", "value"],
+        "stands_within": ["mill", "other"], "row_within": ["mill", "other", "have", "row"], "Library": []},
+}
+METHODS = {
+    Mill: {"stuffs": [], "recipes": [], "names": []},
+    Library: {"put": ["name", "mill"], "drop": ["name"], "mill_of": ["name"], "stand_ins": ["name"], "best": ["name"],
+              "names": [], "circles": [], "back": []},
 }
 
 MILL = Mill([("a", None), ("b", 3)], [("r", [("a", 1)], [("b", 1)]), ("w", [("b", 2)], []), ("o", [], [])])
@@ -67,6 +80,7 @@ def calls():
     yield narrow, [MILL, have, goal, (1, 8)]
     yield from calls_of_worths()
     yield from calls_of_forall()
+    yield from calls_of_library()
 
 
 def calls_of_worths():
@@ -107,6 +121,32 @@ def calls_of_forall():
     yield is_from_all, [MILL, haves, high, from_all(MILL, haves, high)]
     yield row_from, [MILL, haves, goal, rows, [(3, 2), (0, 1)]]
     yield row_from, [MILL, haves, goal, rows, [(1, 1), (0, 1)]]
+
+
+def calls_of_library():
+    stuffs, whole = [("a", 4), ("b", 3)], ("z", [("a", 2)], [("b", 2)])
+    mill, other = Mill(stuffs, MILL.recipes()), Mill(stuffs, [whole])
+    back = ("y", [("b", 1)], [("a", 1)])
+    yield brinks, [mill, whole]
+    yield can_do, [mill, whole]
+    yield can_do, [mill, back]
+    rows = can_do(mill, whole)[1]
+    yield is_can_do, [mill, whole, ("always", rows)]
+    yield is_can_do, [mill, back, can_do(mill, back)]
+    yield done_from, [mill, whole, rows, [(3, 1), (0, 1)], (1, 2)]
+    yield first_lacking, [mill, other]
+    yield stands_for, [mill, other]
+    yield row_over, [mill, other, [(3, 1), (0, 1)], [(2, [("z", (1, 2))])]]
+    yield row_over, [mill, other, [(3, 1), (0, 1)], []]
+    yield needed, [Mill(stuffs, [*mill.recipes(), whole])]
+    yield together, [mill, other]
+    parts = Mill([*stuffs, ("m", 1)], [("p", [("a", 1)], [("m", 1)]), ("q", [("m", 1)], [("b", 1)])])
+    yield inner_rows, [parts, other]
+    yield inner_rows, [parts, Mill(stuffs, [whole, back])]
+    yield is_inner_rows, [parts, other, inner_rows(parts, other)]
+    yield is_inner_rows, [parts, Mill(stuffs, [back]), inner_rows(parts, Mill(stuffs, [back]))]
+    yield stands_within, [parts, other]
+    yield row_within, [parts, other, [(3, 1), (0, 1)], [(2, [("z", (1, 2))])]]
 
 
 def lists_in(value):
@@ -183,7 +223,7 @@ class GeneralTest(unittest.TestCase):
 
     def test_whether(self):
         for function, handed in calls():
-            if function.__name__.startswith("is_"):
+            if function.__name__.startswith(("is_", "stands_")):
                 self.assertIs(function(*handed), True, function.__name__)
 
     def test_mills_stay_alike(self):
@@ -200,11 +240,20 @@ class InterfaceTest(unittest.TestCase):
             for name, arguments in names.items():
                 with self.subTest(name=name):
                     self.assertEqual(getattr(held, name).__module__, module)
-                    parameters = inspect.signature(getattr(held, name)).parameters
-                    self.assertEqual(list(parameters), arguments)
-                    for parameter in parameters.values():
-                        self.assertIs(parameter.default, parameter.empty)
-                        self.assertIs(parameter.kind, parameter.POSITIONAL_OR_KEYWORD)
+                    self.check(getattr(held, name), arguments)
+
+    def test_methods_and_their_arguments(self):
+        for held, names in METHODS.items():
+            for name, arguments in names.items():
+                with self.subTest(held=held, name=name):
+                    self.check(held.__dict__[name], ["self", *arguments])
+
+    def check(self, function, arguments):
+        parameters = inspect.signature(function).parameters
+        self.assertEqual(list(parameters), arguments)
+        for parameter in parameters.values():
+            self.assertIs(parameter.default, parameter.empty)
+            self.assertIs(parameter.kind, parameter.POSITIONAL_OR_KEYWORD)
 
 
 if __name__ == "__main__":

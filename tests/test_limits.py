@@ -7,6 +7,8 @@ from fractions import Fraction
 
 from millpapers.courses import bars, bottom, course, is_bars, is_course, may, narrow, row_bars, row_of, row_to, top
 from millpapers.forall import always, from_all, is_always, is_from_all, row_between, row_from
+from millpapers.library import Library, brinks, can_do, done_from, first_lacking, inner_rows, is_can_do, is_inner_rows
+from millpapers.library import needed, row_over, row_within, stands_within, together
 from millpapers.mills import Mill, turned
 from millpapers.rows import done, is_row, led, narrows
 from millpapers.worths import fair, growing, loop, rate, rate_brew, rate_prices, seeds
@@ -203,6 +205,63 @@ class LimitsTest(unittest.TestCase):
             told = self.timed(from_all, mill, haves + fixed, goal)
             self.assertTrue(self.timed(is_from_all, mill, haves + fixed, goal, told))
             self.assertEqual(told[0], "always")
+
+    def test_library(self):
+        chance, words = random.Random(48), []
+        for turn in range(20):
+            mill = full_mill(chance, 8, 3, [None])
+            stuffs = [(name, GREATEST - place if place < 2 else None) for place, (name, _) in enumerate(mill.stuffs())]
+            mill = Mill(stuffs, mill.recipes())
+            recipe = mill.recipes()[turn % 3] if turn % 2 else full_mill(chance, 8, 1, [None]).recipes()[0]
+            self.timed(brinks, mill, recipe)
+            told = self.timed(can_do, mill, recipe)
+            self.assertTrue(self.timed(is_can_do, mill, recipe, told))
+            words.append(told[0])
+            if told[0] == "always":
+                self.check_step(mill, recipe, told[1])
+        self.assertGreater(min(words.count("always"), words.count("not")), 3)
+
+    def check_step(self, mill, recipe, rows):
+        most, starts = brinks(mill, recipe)
+        amount = pair(number(most) / 7)
+        have = [pair(number(low) / 7) for low in starts[0]]
+        row = self.timed(done_from, mill, recipe, rows, have, amount)
+        alone = Mill(mill.stuffs(), [recipe])
+        self.assertEqual(led(mill, have, row), led(alone, have, [(1, [(recipe[0], amount)])]))
+
+    def test_mills_for_mills(self):
+        chance = random.Random(49)
+        for _ in range(3):
+            mills = [full_mill(chance, 6, 3, [None]) for _ in range(2)]
+            stuffs = [(name, GREATEST - place if place < 2 else None)
+                      for place, (name, _) in enumerate(mills[0].stuffs())]
+            one = Mill(stuffs, mills[0].recipes())
+            other = Mill(stuffs, [("q" + name, takes, gives) for name, takes, gives in mills[1].recipes()])
+            both = self.timed(together, one, other)
+            self.assertIsNone(self.timed(first_lacking, both, one))
+            self.timed(needed, both)
+            have = [(GREATEST // 2, 1)] * 2 + [(10 ** 9, 1)] * 4
+            row = [(2, [(name, (1, 99)) for name in one.names()])]
+            self.assertEqual(led(both, have, self.timed(row_over, both, one, have, row)), led(one, have, row))
+            library = Library()
+            for name, mill in (("a", one), ("b", other), ("c", both)):
+                library.put(name, mill)
+            self.timed(library.circles)
+            self.timed(library.best, "a")
+            self.assertIn("c", self.timed(library.stand_ins, "b"))
+            parts = []
+            for place, (name, takes, gives) in enumerate(one.recipes()[:2]):
+                tank = ("m%d" % place, GREATEST)
+                parts += [(name, takes, [tank]), (name + "y", [tank], gives)]
+            inner, outer = Mill([*stuffs, ("m0", 1), ("m1", None)], parts), Mill(stuffs, one.recipes()[:2])
+            told = self.timed(inner_rows, inner, outer)
+            self.assertEqual(told[0], "always")
+            self.assertTrue(self.timed(is_inner_rows, inner, outer, told))
+            self.assertTrue(self.timed(stands_within, inner, outer))
+            row = [(3, [(name, (1, 99)) for name in outer.names()])]
+            nothing = [(0, 1), (0, 1)]
+            self.assertEqual(led(inner, have + nothing, self.timed(row_within, inner, outer, have, row)),
+                             led(outer, have, row) + nothing)
 
 
 if __name__ == "__main__":

@@ -1,7 +1,7 @@
 """Values of the wrong kinds, each with the error that the document names and what its field holds."""
 
-from millpapers.errors import InvalidBox, InvalidBrew, InvalidChain, InvalidHoldings, InvalidList, InvalidMill
-from millpapers.errors import InvalidNumber, InvalidRow, UnknownName
+from millpapers.errors import InvalidBox, InvalidBrew, InvalidChain, InvalidHoldings, InvalidItem, InvalidList
+from millpapers.errors import InvalidMill, InvalidNumber, InvalidRow, UnknownName
 from millpapers.mills import Mill
 
 SPARE = Mill([("q", None)], [])
@@ -136,6 +136,17 @@ def no_brews(one, other):
     values += [[(bad, (1, 2))] for bad in [None, True, 0, [one], (one,), {}, SPARE, "", one + "x"]]
     values += [[(one, amount)] for amount in NO_STEPS_AMOUNTS] + [[good[0], (other, bad)] for bad in NO_STEPS_AMOUNTS]
     return values
+
+
+def bad_recipes(stuff):
+    """Values that are no recipes over the stuffs of any mill with this one among at most three."""
+    sides = [None, True, 0, "a", (), ((stuff, 1),), {}, [None], [True], [stuff], [[stuff, 1]], [(stuff,)]]
+    sides += [[(stuff, 1, 1)], [(stuff, 1), (stuff, 2)], [("nobody", 1)], [("", 1)], [(stuff, 1)] * 4]
+    sides += [[(name, 1)] for name in [None, True, 0, [stuff], (stuff,), {}, SPARE]]
+    sides += [[(stuff, count)] for count in NO_WHOLES + [0, 10 ** 6 + 1, (1, 1), (2, 1)]]
+    values = ODD + [["s", [], []], ("s", []), ("s", [], [], []), ("s",)] + [(name, [], []) for name in NO_NAMES]
+    values += [("s", side, []) for side in sides] + [("s", [], side) for side in sides]
+    return [(value, InvalidItem, value) for value in values]
 
 
 def bad_brews(one, other):
