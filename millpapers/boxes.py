@@ -52,6 +52,15 @@ def end_in(tables, have, value, box):
     return end if lies_in(end, box) else None
 
 
+def lead_into(tables, have, rows, boxes):
+    """Return whether values are rows that, one after another from some holdings, lead each one into its box."""
+    for row, box in zip(rows, boxes):
+        have = end_in(tables, have, row, box)
+        if have is None:
+            return False
+    return True
+
+
 def bounds_of(tables, chain):
     """Return the boxes of a chain with rooms in the place of highs that are None, where there are rooms."""
     return [[_with_room(span, room) for span, room in zip(box, tables.rooms)] for box in chain]

@@ -1,53 +1,51 @@
-"""Brews of a mill: which values they are, what they gain, and all of them as a cone."""
+"""Brews of a mill: which values they are, what they gain, and all of them as a linear program."""
 
 from millpapers.amounts import NOTHING, common_divisor, fraction, many, plus
-from millpapers.cones import Cone, climb, prices_of, rise
 from millpapers.kinds import is_above_nothing, is_tuple_of
+from millpapers.programs import Program, climb, prices_of, rise
 
 
 class Brewery:
-    """All brews that, together with a start times a scale, leave nothing below nothing, as a cone.
+    """All brews that, together with a start, leave nothing below nothing.
 
-    The variables are the scale, the amount of each recipe, and what is left of each stuff.
+    The variables are the amount of each recipe, and what is left of each stuff.
     """
 
     def __init__(self, tables, start):
         recipes = len(tables.recipe_names)
         self.recipe_names = tables.recipe_names
-        self.scale = 0
         self.amounts = list(range(1, recipes + 1))
         self.left = list(range(recipes + 1, recipes + 1 + len(start)))
         rows = [[number, *[net[stuff] for net in tables.nets]] for stuff, number in enumerate(start)]
-        self.cone = Cone(self.left, [self.scale, *self.amounts], rows)
+        self.program = Program(self.left, [0, *self.amounts], rows)
 
     def loop(self):
         """Return a brew that leaves more than nothing of some stuff, where there was none at first; None if none."""
-        found, missing = climb(self.cone, self.left)
+        found, missing = climb(self.program, self.left)
         if len(missing) == len(self.left):
             return None
         return self._brew(found, common_divisor([found.get(amount, 0) for amount in self.amounts]))
 
     def fair_prices(self):
         """Return prices above nothing at which no recipe gains, where there was none at first; None if none."""
-        _, missing = climb(self.cone, self.left)
+        _, missing = climb(self.program, self.left)
         if len(missing) < len(self.left):
             return None
-        prices = prices_of(self.cone, missing)
+        prices = prices_of(self.program, missing)
         common = common_divisor([prices[stuff] for stuff in self.left])
         return [(prices[stuff] // common, 1) for stuff in self.left]
 
     def most(self, stuff):
         """Return how much of a stuff can be left of the start alone, None if there is no bound."""
-        return rise(self.cone, self.scale, {self.left[stuff]: 1})
+        return rise(self.program, {self.left[stuff]: 1})
 
     def most_brew(self):
         """Return the brew that leaves as much as `most` has told."""
-        found = self.cone.ray(self.cone.free.index(self.scale))
-        return self._brew(found, found[self.scale])
+        return self._brew(self.program.along(0), self.program.scale)
 
     def most_prices(self, stuff):
         """Return prices, 1 for the stuff, at which no recipe gains and the start is worth what `most` has told."""
-        prices = prices_of(self.cone, {self.left[stuff]: 1})
+        prices = prices_of(self.program, {self.left[stuff]: 1})
         unit = prices[self.left[stuff]]
         return [fraction(prices.get(other, 0), unit) for other in self.left]
 

@@ -1,6 +1,6 @@
 """Chains of boxes: courses through them, bars of them, and what courses do and have."""
 
-from millpapers.boxes import end_in, lies_in, need_box, need_chain
+from millpapers.boxes import lead_into, lies_in, need_box, need_chain
 from millpapers.errors import InvalidList, InvalidNumber
 from millpapers.kinds import is_above_nothing, is_amount, is_list_of, is_tuple_of, is_whole_within
 from millpapers.steps import fits_room, is_holdings, need_holdings
@@ -29,14 +29,7 @@ def is_course(mill, chain, value):
     tables = _need_mill_and_chain(mill, chain)
     if not is_tuple_of(value, 2) or not is_holdings(tables, value[0]) or not is_list_of(value[1], len(chain) - 1):
         return False
-    now = value[0]
-    if not lies_in(now, chain[0]):
-        return False
-    for row, box in zip(value[1], chain[1:]):
-        now = end_in(tables, now, row, box)
-        if now is None:
-            return False
-    return True
+    return lies_in(value[0], chain[0]) and lead_into(tables, value[0], value[1], chain[1:])
 
 
 def is_bars(mill, chain, value):

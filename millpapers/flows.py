@@ -1,33 +1,33 @@
-"""All amounts and holdings that fit a chain by sums, as a cone: they and a scale, as great as one likes."""
+"""All amounts and holdings that fit a chain by sums, as a linear program."""
 
 from math import lcm
 
 from millpapers.amounts import NOTHING, common_divisor, fraction, plus
-from millpapers.cones import Cone, prices_of
+from millpapers.programs import Program, prices_of
 
 
 class Flow:
-    """The cone of a chain for the recipes that are still possible in its legs.
+    """The program of a chain for the recipes that are still possible in its legs.
 
     For each possible recipe of a leg there is a variable for its amount; for each stuff of a box one for how much more
     there is than the low, and one for how much less than the high. What is nailed in the first box has none. All of
-    them are meant times the scale and the unit, so that all rows are integers.
+    them are meant times the unit, so that all rows are integers.
     """
 
     def __init__(self, tables, bounds, possible):
         self.tables = tables
         self.bounds = bounds
         self.unit = _common_under(bounds)
-        self.scale = 0
+        self.unity = 0
         self.amounts = {}
         self.above = {}
         self.below = {}
         self._number(possible)
-        self.cone = self._first_cone()
+        self.program = self._first_program()
 
     def wanted(self):
         """Return the variables of which it matters whether they can be above 0."""
-        wanted = [self.scale, *list(self.amounts.values())]
+        wanted = list(self.amounts.values())
         for box, spans in enumerate(self.bounds):
             for stuff, (low, high) in enumerate(spans):
                 room = self.tables.rooms[stuff]
@@ -38,7 +38,7 @@ class Flow:
         return wanted
 
     def held_in(self, found, box):
-        """Return what is held in a box where the variables are so much, the scale above 0."""
+        """Return what is held in a box where the variables are so much."""
         lows = [low for low, _ in self.bounds[box]]
         return [plus(low, self._told(found, self.above, (box, stuff))) for stuff, low in enumerate(lows)]
 
@@ -46,9 +46,9 @@ class Flow:
         """Return the amounts of all recipes that are done in a leg where the variables are so much."""
         return [self._told(found, self.amounts, (leg, recipe)) for recipe in range(len(self.tables.recipe_names))]
 
-    def worths(self, missing):
-        """Return worths that show that the missing variables can't be above 0, where a climb ended with these."""
-        prices = prices_of(self.cone, missing)
+    def worths(self, weights):
+        """Return worths that show that the sum of variables times their weights can't be greater than it is here."""
+        prices = prices_of(self.program, weights)
         behind = [0] * len(self.tables.rooms)
         worths = []
         for box in range(len(self.bounds) - 1, 0, -1):
@@ -57,12 +57,12 @@ class Flow:
         common = common_divisor([worth for mine in worths for worth in mine])
         return [[(worth // common, 1) for worth in mine] for mine in reversed(worths)]
 
-    def meant(self, number, scale):
-        """Return the amount that a variable means with a scale."""
-        return fraction(number, scale * self.unit)
+    def meant(self, number, times):
+        """Return the amount that a variable means, so many times."""
+        return fraction(number, times * self.unit)
 
     def _number(self, possible):
-        """Give each variable its number: the scale, amounts, what is free of the first box, and what these tell."""
+        """Give each variable its number: amounts, what is free of the first box, and what these tell."""
         count = 1
         for leg, recipes in enumerate(possible):
             for recipe in recipes:
@@ -78,9 +78,9 @@ class Flow:
                     self.below[(box, stuff)] = count
                     count += 1
 
-    def _first_cone(self):
+    def _first_program(self):
         first = [variable for (box, _), variable in self.above.items() if box == 0]
-        free = [self.scale, *list(self.amounts.values()), *first]
+        free = [self.unity, *list(self.amounts.values()), *first]
         told, rows = [], []
         for (box, stuff), variable in self.above.items():
             row = self._row_above(free, box, stuff)
@@ -93,7 +93,7 @@ class Flow:
                 row = [-entry for entry in row]
                 row[0] += self._whole(high) - self._whole(low)
                 rows.append(row)
-        return Cone(told, free, rows)
+        return Program(told, free, rows)
 
     def _row_above(self, free, box, stuff):
         """Return by the free variables how much more there is of a stuff in a box than its low."""
@@ -114,7 +114,7 @@ class Flow:
         """Return what a variable stands for, nothing if there is no such variable."""
         if key not in variables:
             return NOTHING
-        return self.meant(found.get(variables[key], 0), found[self.scale])
+        return self.meant(found.get(variables[key], 0), found[self.unity])
 
     def _difference(self, prices, key):
         """Return the difference of a stuff in a box, of the worths that the prices come to."""

@@ -1,8 +1,8 @@
 """Lending: whether a bit of some stuffs, taken away again at the end, lets some row lead into a box."""
 
 from millpapers.boxes import nailed
-from millpapers.cones import climb
 from millpapers.flows import Flow
+from millpapers.programs import climb, settle
 from millpapers.walks import Walk
 
 
@@ -23,9 +23,9 @@ def leads_with_a_bit(tables, have, goal, lent):
         walk.takes_stage(("begin", 0))
         walk.takes_stage(("end", 0))
         flow = Flow(tables, walk.bounds, [walk.left_in(0)])
-        _, missing = climb(flow.cone, flow.wanted())
-        if flow.scale in missing:
+        if settle(flow.program) is not None:
             return False
+        _, missing = climb(flow.program, flow.wanted())
         walk.takes_stage(("tight", flow.worths(missing)))
 
 

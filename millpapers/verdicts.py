@@ -2,8 +2,8 @@
 
 from millpapers.amounts import plus
 from millpapers.boxes import nailed
-from millpapers.cones import climb, rise, settle
 from millpapers.flows import Flow
+from millpapers.programs import climb, rise, settle
 from millpapers.turns import row_between_ends
 from millpapers.walks import Walk
 
@@ -46,8 +46,8 @@ class Verdict:
         low = self.walk.bounds[at][stuff][0]
         if (at, stuff) not in flow.above:
             return low
-        settle(flow.cone, flow.scale)
-        bound = rise(flow.cone, flow.scale, {flow.above[(at, stuff)]: sign})
+        settle(flow.program)
+        bound = rise(flow.program, {flow.above[(at, stuff)]: sign})
         return None if bound is None else plus(low, flow.meant(sign * bound[0], bound[1]))
 
     def _search(self):
@@ -55,12 +55,12 @@ class Verdict:
         struck = True
         while struck:
             flow = Flow(self.tables, self.walk.bounds, self.open_recipes())
-            found, missing = climb(flow.cone, flow.wanted())
-            worths = flow.worths(missing)
-            if flow.scale in missing:
-                self.stages.append(("worths", worths))
+            below = settle(flow.program)
+            if below is not None:
+                self.stages.append(("worths", flow.worths({below: 1})))
                 return
-            struck = self._strikes(("tight", worths)) and self._strike_ends()
+            found, missing = climb(flow.program, flow.wanted())
+            struck = self._strikes(("tight", flow.worths(missing))) and self._strike_ends()
         self.holdings = [flow.held_in(found, box) for box in range(len(self.walk.bounds))]
         self.amounts = [flow.done_in(found, leg) for leg in range(self.walk.legs)]
 

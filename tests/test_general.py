@@ -12,6 +12,7 @@ from millpapers.library import needed, row_over, row_within, stands_for, stands_
 from millpapers.mills import Mill, turned
 from millpapers.rows import done, is_row, led, narrows
 from millpapers.worths import fair, gain, growing, is_fair, is_loop, loop, rate, rate_brew, rate_prices, seeds
+from millpapers.yields import banded, doubled, is_sure, spoiled, sure_bars, sure_rows, surely
 from tests.makers import FREE, NONE, nailed
 
 INTERFACE = {
@@ -38,6 +39,12 @@ INTERFACE = {
         "stands_for": ["mill", "other"], "row_over": ["mill", "other", "have", "row"], "needed": ["mill"],
         "together": ["one", "other"], "inner_rows": ["mill", "other"], "is_inner_rows": ["mill", "other", "value"],
         "stands_within": ["mill", "other"], "row_within": ["mill", "other", "have", "row"], "Library": []},
+    "millpapers.yields": {
+        "banded": ["mill", "bands", "recipe", "stuff", "least", "most"],
+        "sure_rows": ["mill", "bands", "have", "boxes"], "is_sure": ["mill", "bands", "have", "boxes", "value"],
+        "doubled": ["mill", "bands"], "sure_bars": ["mill", "bands", "have", "boxes"],
+        "spoiled": ["mill", "bands", "have", "boxes", "rows"],
+        "surely": ["mill", "bands", "have", "boxes", "at", "stuff"]},
 }
 METHODS = {
     Mill: {"stuffs": [], "recipes": [], "names": []},
@@ -81,6 +88,7 @@ def calls():
     yield from calls_of_worths()
     yield from calls_of_forall()
     yield from calls_of_library()
+    yield from calls_of_yields()
 
 
 def calls_of_worths():
@@ -147,6 +155,26 @@ def calls_of_library():
     yield is_inner_rows, [parts, Mill(stuffs, [back]), inner_rows(parts, Mill(stuffs, [back]))]
     yield stands_within, [parts, other]
     yield row_within, [parts, other, [(3, 1), (0, 1)], [(2, [("z", (1, 2))])]]
+
+
+def calls_of_yields():
+    bands, have = [("r", "b", 1, 2), ("o", "a", 0, 3)], [(4, 1), (0, 1)]
+    mill = Mill(MILL.stuffs(), [*MILL.recipes()[:2], ("o", [], [("a", 1)])])
+    boxes, far = [[FREE, FREE], [FREE, ((1, 1), None)]], [[FREE, ((2, 1), None)]]
+    yield banded, [mill, bands, "r", "b", 0, 9]
+    yield banded, [mill, bands[1:], "r", "b", 0, 9]
+    yield banded, [mill, [], "r", "b", 0, 9]
+    yield doubled, [mill, bands]
+    for function in (sure_rows, sure_bars):
+        yield function, [mill, bands, have, boxes]
+        yield function, [mill, bands, have, far]
+        yield function, [mill, [], have, [[FREE, FREE]]]
+    yield is_sure, [mill, bands, have, boxes, sure_rows(mill, bands, have, boxes)]
+    row = [(2, [("r", (1, 4)), ("o", (1, 8))])]
+    yield spoiled, [mill, bands, have, boxes, [row, row]]
+    yield spoiled, [mill, bands, have, boxes, [row, []]]
+    yield surely, [mill, bands, have, boxes, 0, "b"]
+    yield surely, [mill, bands, have, far, 0, "b"]
 
 
 def lists_in(value):

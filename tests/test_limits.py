@@ -12,6 +12,7 @@ from millpapers.library import needed, row_over, row_within, stands_within, toge
 from millpapers.mills import Mill, turned
 from millpapers.rows import done, is_row, led, narrows
 from millpapers.worths import fair, growing, loop, rate, rate_brew, rate_prices, seeds
+from millpapers.yields import is_sure, spoiled, sure_bars, sure_rows, surely
 from tests.looker import number, pair
 from tests.makers import looker_of
 
@@ -262,6 +263,49 @@ class LimitsTest(unittest.TestCase):
             nothing = [(0, 1), (0, 1)]
             self.assertEqual(led(inner, have + nothing, self.timed(row_within, inner, outer, have, row)),
                              led(outer, have, row) + nothing)
+
+    def sure(self, mill, bands, have, boxes):
+        """Time all that is told of sure rows; return whether there are some."""
+        rows, stages = self.timed(sure_rows, mill, bands, have, boxes), self.timed(sure_bars, mill, bands, have, boxes)
+        self.assertNotEqual(rows is None, stages is None)
+        for at in range(len(boxes)):
+            most = self.timed(surely, mill, bands, have, boxes, at, mill.stuffs()[0][0])
+            self.assertEqual(most is None, rows is None)
+        if rows is not None:
+            self.assertTrue(self.timed(is_sure, mill, bands, have, boxes, rows))
+            self.assertIsNone(self.timed(spoiled, mill, bands, have, boxes, rows))
+        return rows is not None
+
+    def test_yields(self):
+        chance, yes = random.Random(50), []
+        for turn in range(40):
+            count, stuffs, recipes = ((1, 4, 8), (3, 4, 4), (2, 4, 6), (4, 3, 3))[turn % 4]
+            mill = full_mill(chance, stuffs, recipes, [None, GREATEST])
+            bands = [(name, stuff, chance.randrange(0, number_of), chance.randrange(number_of, GREATEST + 1))
+                     for name, _, gives in mill.recipes() for stuff, number_of in gives]
+            have = [self.very_long(chance, 9) for _ in range(stuffs)]
+            boxes = [[((0, 1), None)] * stuffs for _ in range(count)]
+            for at, box in enumerate(boxes):
+                some = number(have[at % stuffs])
+                box[at % stuffs] = (pair(some * chance.choice([Fraction(1, 3), Fraction(3, 2)])), None)
+                box[stuffs - 1] = ((0, 1), pair(number(have[stuffs - 1]) * chance.choice([1, Fraction(3, 2), 2])))
+            yes.append(self.sure(mill, bands, have, boxes))
+        self.assertGreater(min(yes.count(True), yes.count(False)), 5)
+
+    def very_long(self, chance, most):
+        under = chance.randrange(10 ** 299, 10 ** 300)
+        return pair(Fraction(chance.randrange(under // 10, most * under // 10), under))
+
+    def test_spoiled_with_long_figures(self):
+        chance = random.Random(51)
+        mill = full_mill(chance, 4, 8, [None, GREATEST])
+        bands = [(name, stuff, 0, GREATEST) for name, _, gives in mill.recipes() for stuff, _ in gives]
+        have = [self.very_long(chance, 9) for _ in range(4)]
+        boxes = [[((0, 1), None)] * 4] * 3
+        rows = [[(chance.randrange(1, 10 ** 300), [(chance.choice(mill.names()), (1, chance.randrange(
+            10 ** 299, 10 ** 300))) for _ in range(12)])] for _ in range(3)]
+        told = self.timed(spoiled, mill, bands, have, boxes, rows)
+        self.assertIs(self.timed(is_sure, mill, bands, have, boxes, rows), told is None)
 
 
 if __name__ == "__main__":

@@ -1,7 +1,7 @@
 """Values of the wrong kinds, each with the error that the document names and what its field holds."""
 
-from millpapers.errors import InvalidBox, InvalidBrew, InvalidChain, InvalidHoldings, InvalidItem, InvalidList
-from millpapers.errors import InvalidMill, InvalidNumber, InvalidRow, UnknownName
+from millpapers.errors import InvalidBands, InvalidBox, InvalidBrew, InvalidChain, InvalidHoldings, InvalidItem
+from millpapers.errors import InvalidList, InvalidMill, InvalidNumber, InvalidRow, UnknownName
 from millpapers.mills import Mill
 
 SPARE = Mill([("q", None)], [])
@@ -147,6 +147,31 @@ def bad_recipes(stuff):
     values = ODD + [["s", [], []], ("s", []), ("s", [], [], []), ("s",)] + [(name, [], []) for name in NO_NAMES]
     values += [("s", side, []) for side in sides] + [("s", [], side) for side in sides]
     return [(value, InvalidItem, value) for value in values]
+
+
+def bad_bands(recipe, stuff, other):
+    """Values that are no bands of any mill in which a recipe gives a stuff, and not the other stuff."""
+    good = (recipe, stuff, 1, 2)
+    values = [value for value in ODD if value != []]
+    values += [(good,), good, [list(good)], [good[:3]], [good + (3,)], [good, good], [good, (recipe, stuff, 3, 4)]]
+    values += [[good, bad] for bad in ODD] + [{good: good}]
+    for name in [None, True, 0, "", [recipe], (recipe,), {}, SPARE, "nobody", recipe + "x"]:
+        values += [[(name, stuff, 1, 2)], [(recipe, name, 1, 2)]]
+    values += [[(recipe, other, 1, 2)]]
+    for number in [None, True, False, "1", (1, 1), [1], -1, 10 ** 6 + 1, 10 ** 30, {}, SPARE]:
+        values += [[(recipe, stuff, number, 5)], [(recipe, stuff, 0, number)], [(recipe, stuff, number, number)]]
+    values += [[(recipe, stuff, 0, 0)], [(recipe, stuff, 3, 2)], [(recipe, stuff, 10 ** 6, 10 ** 6 - 1)]]
+    return [(value, InvalidBands, value) for value in values]
+
+
+def bad_boxes_lists(good, most):
+    """Values that are no lists of one to so many boxes of a mill of which these are some."""
+    values = [value for value in ODD if not isinstance(value, list)] + [[], tuple(good), (good * most)[:most + 1]]
+    bad = [(value, InvalidList, value) for value in values]
+    for place in range(len(good)):
+        bad += [(replaced(good, place, box), InvalidBox, box) for box in no_boxes(good[place])]
+    bad += [(good[:1] + [None, True], InvalidBox, None), ([(), []], InvalidBox, ())]
+    return bad
 
 
 def bad_brews(one, other):
