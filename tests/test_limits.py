@@ -12,7 +12,7 @@ from millpapers.library import needed, row_over, row_within, stands_within, toge
 from millpapers.mills import Mill, turned
 from millpapers.rows import done, is_row, led, narrows
 from millpapers.worths import fair, growing, loop, rate, rate_brew, rate_prices, seeds
-from millpapers.yields import is_sure, spoiled, sure_bars, sure_rows, surely
+from millpapers.yields import doubled, is_sure, spoiled, sure_bars, sure_rows, surely
 from tests.looker import number, pair
 from tests.makers import looker_of
 
@@ -291,6 +291,34 @@ class LimitsTest(unittest.TestCase):
                 box[stuffs - 1] = ((0, 1), pair(number(have[stuffs - 1]) * chance.choice([1, Fraction(3, 2), 2])))
             yes.append(self.sure(mill, bands, have, boxes))
         self.assertGreater(min(yes.count(True), yes.count(False)), 5)
+
+    def test_yields_with_tight_boxes(self):
+        # All figures of all boxes are as long as can be, and the boxes lie close around what some rows lead to.
+        chance, yes = random.Random(52), []
+        for turn in range(20):
+            count, stuffs, recipes = ((3, 4, 4), (4, 3, 3))[turn % 2]
+            mill = full_mill(chance, stuffs, recipes, [None, GREATEST])
+            bands = [(name, stuff, chance.randrange(0, number_of), chance.randrange(number_of, GREATEST + 1))
+                     for name, _, gives in mill.recipes() for stuff, number_of in gives]
+            have = [self.very_long(chance, 9 * 10 ** 5) for _ in range(stuffs)]
+            looker, boxes = looker_of(doubled(mill, bands)), []
+            held = [number(some) for some in have + have]
+            for _ in range(count):
+                for _ in range(6):
+                    step = (chance.choice(looker.order), (1, chance.randrange(3, 50)))
+                    held = looker.go(held, [(1, [step])]) or held
+                boxes.append([self.close_around(chance, held[place], held[place + stuffs], mill.stuffs()[place][1])
+                              for place in range(stuffs)])
+            yes.append(self.sure(mill, bands, have, boxes))
+        self.assertGreater(min(yes.count(True), yes.count(False)), 1)
+
+    def close_around(self, chance, low, high, room):
+        under = chance.randrange(10 ** 292, 10 ** 293)
+        least = Fraction(int(low * under) + chance.choice([0, 0, 0, under // 1000]), under)
+        most = max(least, Fraction(int(high * under) + 1, under))
+        if room is not None:
+            least, most = min(least, room), min(most, room)
+        return (pair(least), pair(most))
 
     def very_long(self, chance, most):
         under = chance.randrange(10 ** 299, 10 ** 300)
