@@ -35,16 +35,16 @@ class Brewery:
         common = common_divisor([prices[stuff] for stuff in self.left])
         return [(prices[stuff] // common, 1) for stuff in self.left]
 
-    def most(self, stuff):
+    def greatest_left(self, stuff):
         """Return how much of a stuff can be left of the start alone, None if there is no bound."""
         return rise(self.program, {self.left[stuff]: 1})
 
-    def most_brew(self):
-        """Return the brew that leaves as much as `most` has told."""
+    def greatest_brew(self):
+        """Return the brew that leaves as much as `greatest_left` has just told."""
         return self._brew(self.program.along(0), self.program.scale)
 
-    def most_prices(self, stuff):
-        """Return prices, 1 for the stuff, at which no recipe gains and the start is worth what `most` has told."""
+    def greatest_prices(self, stuff):
+        """Return prices, 1 for the stuff, at which no recipe gains and the start is worth as much as that."""
         prices = prices_of(self.program, {self.left[stuff]: 1})
         unit = prices[self.left[stuff]]
         return [fraction(prices.get(other, 0), unit) for other in self.left]

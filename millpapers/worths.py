@@ -59,13 +59,13 @@ def rate(mill, one, other):
 def rate_brew(mill, one, other):
     """Return any brew that turns one unit of a stuff into as much of another as the rate, None if there is no rate."""
     most, brewery, _ = _rated(mill, one, other)
-    return None if most is None else brewery.most_brew()
+    return None if most is None else brewery.greatest_brew()
 
 
 def rate_prices(mill, one, other):
     """Return any prices that show that no brew does better than the rate, None if there is no rate."""
     most, brewery, place = _rated(mill, one, other)
-    return None if most is None else brewery.most_prices(place)
+    return None if most is None else brewery.greatest_prices(place)
 
 
 def seeds(mill, have, goal):
@@ -102,7 +102,7 @@ def _rated(mill, one, other):
     first = tables.place_of_stuff(one)
     second = tables.place_of_stuff(other)
     brewery = Brewery(tables, [1 if stuff == first else 0 for stuff in range(len(tables.rooms))])
-    return brewery.most(second), brewery, second
+    return brewery.greatest_left(second), brewery, second
 
 
 def _holds_one_of(lent, found):

@@ -122,11 +122,13 @@ class BrinksTest(unittest.TestCase):
         self.assertEqual(self.told([("a", 7)], [("a", 3)], [("a", 2)]), ((7, 3), [[(7, 1)]]))
         self.assertEqual(self.told([("a", 7), ("b", 1)], [("a", 3)], [("a", 4), ("b", 2)]),
                          ((1, 2), [[(3, 2), (0, 1)], [(13, 2), (0, 1)]]))
-        self.assertEqual(self.told([("a", None), ("b", 4)], [("a", 3), ("b", 1)], [("b", 2)]), ((2, 1), [[(6, 1), (2, 1)]]))
+        self.assertEqual(self.told([("a", None), ("b", 4)], [("a", 3), ("b", 1)], [("b", 2)]),
+                         ((2, 1), [[(6, 1), (2, 1)]]))
 
     def test_need_of_nothing(self):
         # A tank that the recipe does not touch stands empty or full.
-        self.assertEqual(self.told([("a", 7), ("b", None)], [("b", 2)], []), ((1, 1), [[(0, 1), (2, 1)], [(7, 1), (2, 1)]]))
+        self.assertEqual(self.told([("a", 7), ("b", None)], [("b", 2)], []),
+                         ((1, 1), [[(0, 1), (2, 1)], [(7, 1), (2, 1)]]))
         self.assertEqual(self.told([("a", 0), ("b", 2)], [], [("b", 6)]), ((1, 3), [[(0, 1), (0, 1)]]))
         self.assertEqual(self.told([("a", 5), ("b", 2)], [], []),
                          ((1, 1), [[(0, 1), (0, 1)], [(0, 1), (2, 1)], [(5, 1), (0, 1)], [(5, 1), (2, 1)]]))
@@ -301,7 +303,8 @@ class DoneFromTest(unittest.TestCase):
     def test_arguments(self):
         rows, have = can_do(self.mill, WHOLE)[1], [(5, 2), (1, 4), (0, 1)]
         wrong = ODD + [tuple(rows), rows[:1], rows + rows, [rows, rows]]
-        wrong += [replaced(rows, place, value) for place in range(2) for value in no_rows("r1") + [[], rows[place][:-1]]]
+        for place in range(2):
+            wrong += [replaced(rows, place, value) for value in no_rows("r1") + [[], rows[place][:-1]]]
         amounts = NO_STEPS_AMOUNTS + [(101, 100), (2, 1), (10 ** 15, 1)]
         check_arguments(self, done_from, [
             ("mill", self.mill, bad_mills()), ("recipe", WHOLE, bad_recipes("a")),

@@ -42,7 +42,8 @@ def some_row(chance, mill, have, steps):
     for _ in range(steps):
         recipe = chance.choice(mill.recipes())
         most, _ = brinks_by_words(mill, recipe)
-        block = (chance.choice([1, 1, 2]), [(recipe[0], pair(most * chance.choice([1, Fraction(1, 2), Fraction(1, 7)])))])
+        amount = most * chance.choice([1, Fraction(1, 2), Fraction(1, 7)])
+        block = (chance.choice([1, 1, 2]), [(recipe[0], pair(amount))])
         if most > 0 and sum(times for times, _ in row) + block[0] <= steps:
             end = looker_of(mill).go(held, [block])
             if end is not None:
@@ -74,8 +75,8 @@ class ExampleTest(unittest.TestCase):
                          [(2, 1), (3, 1), (1, 1)])
         tanks = [("c", 1), ("m", 1), ("a", None), ("b", None)]
         self.assertEqual(first_lacking(Mill(tanks, PAIR.recipes()), Mill(tanks, CREW.recipes())), "r")
-        self.assertEqual([stands_within(PAIR, CREW), inner_rows(PAIR, Mill(OUTER, [("s", [("a", 1)], [("b", 2)])]))[:2]],
-                         [True, ("not", "s")])
+        other = Mill(OUTER, [("s", [("a", 1)], [("b", 2)])])
+        self.assertEqual([stands_within(PAIR, CREW), inner_rows(PAIR, other)[:2]], [True, ("not", "s")])
         self.assertEqual(led(PAIR, [(1, 1), (9, 1), (0, 1), (0, 1)],
                              row_within(PAIR, CREW, [(1, 1), (9, 1), (0, 1)], [(4, [("r", (1, 1))])])),
                          [(1, 1), (5, 1), (4, 1), (0, 1)])
@@ -373,8 +374,9 @@ class InnerTest(unittest.TestCase):
 
     def test_arguments(self):
         bad = bad_mills() + [(other, InvalidMill, other) for other in [
-            Mill(OUTER[::-1], []), Mill(OUTER[1:], []), Mill([("c", 2), *OUTER[1:]], []), Mill([("c", 1), ("m", 1)], []),
-            Mill([*PAIR.stuffs(), ("x", None)], []), Mill([*OUTER, ("n", 1)], []), Mill([*OUTER, ("m", None)], [])]]
+            Mill(OUTER[::-1], []), Mill(OUTER[1:], []), Mill([("c", 2), *OUTER[1:]], []),
+            Mill([("c", 1), ("m", 1)], []), Mill([*PAIR.stuffs(), ("x", None)], []),
+            Mill([*OUTER, ("n", 1)], []), Mill([*OUTER, ("m", None)], [])]]
         both = [("mill", PAIR, bad_mills()), ("other", CREW, bad)]
         check_arguments(self, inner_rows, both)
         check_arguments(self, stands_within, both)
@@ -384,8 +386,9 @@ class InnerTest(unittest.TestCase):
         outer = [("a", None), ("b", 1)]
         mill, other = Mill([*outer, ("m", 3)], PARTS), Mill(outer, [WHOLE])
         have = [(3, 2), (0, 1)]
-        wrong = no_rows("r") + [[(1, [("r", (101, 100))])], [(1, [("r", (1, 1)), ("r", (1, 4))])], [(1, [("r1", (1, 4))])],
-                                [(7, [("r", (1, 99))])], [(4, [("r", (1, 99))] * 2)], [(10 ** 300, [("r", (1, 10 ** 300))])]]
+        wrong = no_rows("r") + [[(1, [("r", (101, 100))])], [(1, [("r", (1, 1)), ("r", (1, 4))])],
+                                [(1, [("r1", (1, 4))])], [(7, [("r", (1, 99))])], [(4, [("r", (1, 99))] * 2)],
+                                [(10 ** 300, [("r", (1, 10 ** 300))])]]
         inner = [have + [(0, 1)]]
         check_arguments(self, row_within, [
             ("mill", mill, bad_mills()), ("other", other, bad_mills() + [(PLAIN, InvalidMill, PLAIN)]),

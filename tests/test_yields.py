@@ -149,6 +149,14 @@ class BandedTest(unittest.TestCase):
         self.assertEqual(bands[1], ("r", "b", 1, 10 ** 6))
         self.assertEqual(banded(TWO, bands, "r", "c", 0, 1), bands)
 
+    def test_the_same_stuff_of_other_recipes(self):
+        mill = Mill([("a", None), ("b", None)], [("r", [], [("a", 1), ("b", 1)]), ("s", [], [("a", 1)])])
+        bands = [("r", "a", 0, 1), ("r", "b", 0, 2), ("s", "a", 0, 3)]
+        self.assertEqual(banded(mill, bands, "s", "a", 4, 5), [*bands[:2], ("s", "a", 4, 5)])
+        self.assertEqual(banded(mill, bands, "r", "a", 4, 5), [("r", "a", 4, 5), *bands[1:]])
+        self.assertEqual(banded(mill, bands[:2], "s", "a", 4, 5), [*bands[:2], ("s", "a", 4, 5)])
+        self.assertEqual(banded(mill, bands[1:], "r", "a", 4, 5), [*bands[1:], ("r", "a", 4, 5)])
+
     def test_mills_with_more_stuffs(self):
         mill = Mill([("s%d" % n, None) for n in range(8)], [("r", [], [("s7", 1)])])
         self.assertEqual(banded(mill, [], "r", "s7", 0, 1), [("r", "s7", 0, 1)])
@@ -251,7 +259,8 @@ class SureTest(unittest.TestCase):
     def test_rows_of_some_runs_only(self):
         # 3 of y are there behind a step at least, and at most 5: so much fits by each of the two runs.
         have, boxes = [(9, 1), (0, 1)], [[FREE, ((3, 1), None)]]
-        for least, most, sure in ((3, 5, True), (3, 6, False), (2, 3, True), (1, 2, False), (0, 1, False), (6, 10, True)):
+        for least, most, sure in ((3, 5, True), (3, 6, False), (2, 3, True), (1, 2, False), (0, 1, False),
+                                  (6, 10, True)):
             bands = [("r", "y", least, most)]
             self.assertIs(sure_rows(TAP, bands, have, boxes) is not None, sure)
             self.assertIs(sure_bars(TAP, bands, have, boxes) is None, sure)
@@ -268,7 +277,8 @@ class SureTest(unittest.TestCase):
         good = [[(1, [("r", (1, 1))])], [(2, [("r", (1, 2))])]]
         self.assertIs(is_sure(TAP, bands, have, boxes, good), True)
         for value in ODD + [tuple(good), good[:1], good + [[]], [good[0], []], good[::-1] + [[]], [good[0], good],
-                            [good[0], [(3, [("r", (1, 2))]), (1, [("r", (1, 1))])]], [[(1, [("r", (99, 100))])], good[1]]]:
+                            [good[0], [(3, [("r", (1, 2))]), (1, [("r", (1, 1))])]],
+                            [[(1, [("r", (99, 100))])], good[1]]]:
             self.assertIs(is_sure(TAP, bands, have, boxes, value), False)
         for value in no_rows("r"):
             self.assertIs(is_sure(TAP, bands, have, boxes, [value, good[1]]), False)
@@ -304,7 +314,8 @@ class SpoiledTest(unittest.TestCase):
         self.assertEqual(self.told(bands, have, [free], [[(7, [half])]]), ("least", 0, 0, 0))
         self.assertEqual(self.told(bands, have, [free] * 2, [[(2, [one])], [(1, [bit]), (2, [bit, one])]]),
                          ("least", 1, 1, 1))
-        self.assertEqual(self.told(bands, have, [free] * 2, [[(2, [one])], [(1, [bit]), (2, [bit])]]), ("most", 1, 1, 0))
+        self.assertEqual(self.told(bands, have, [free] * 2, [[(2, [one])], [(1, [bit]), (2, [bit])]]),
+                         ("most", 1, 1, 0))
         self.assertEqual(self.told(bands, have, [free] * 3, [[], [(1, [half])], [(1, [half, bit, one, one])]]),
                          ("least", 2, 0, 3))
 
@@ -337,10 +348,12 @@ class SpoiledTest(unittest.TestCase):
         many = 10 ** 40
         bands, boxes = [("r", "y", 1, 2)], [[FREE, FREE]]
         bit = ("r", (1, many))
-        for times, told in ((5 * many // 2, None), (5 * many // 2 + 1, ("most", 0, 0, 0)), (3 * many, ("most", 0, 0, 0)),
-                            (3 * many + 1, ("least", 0, 0, 0)), (10 ** 299, ("least", 0, 0, 0))):
+        for times, told in ((5 * many // 2, None), (5 * many // 2 + 1, ("most", 0, 0, 0)),
+                            (3 * many, ("most", 0, 0, 0)), (3 * many + 1, ("least", 0, 0, 0)),
+                            (10 ** 299, ("least", 0, 0, 0))):
             self.assertEqual(spoiled(TAP, bands, [(3, 1), (0, 1)], boxes, [[(times, [bit])]]), told)
-        self.assertEqual(spoiled(TAP, bands, [(3, 1), (0, 1)], boxes, [[(2 * many, [bit]), (many, [bit])]]), ("most", 0, 1, 0))
+        self.assertEqual(spoiled(TAP, bands, [(3, 1), (0, 1)], boxes, [[(2 * many, [bit]), (many, [bit])]]),
+                         ("most", 0, 1, 0))
         self.assertEqual(spoiled(TAP, bands, [(3, 1), (0, 1)], boxes, [[(2 * many, [bit]), (1, [("r", (1, 8))] * 9)]]),
                          ("least", 0, 1, 8))
         # Two steps fail in turns that are far behind and lie side by side.
@@ -356,7 +369,7 @@ class SpoiledTest(unittest.TestCase):
             rows = [[(chance.choice([1, 1, 2, 5, 9]), [(chance.choice(mill.names()), chance.choice(
                 [(1, 1), (1, 2), (1, 8), (1, 5)])) for _ in range(chance.randrange(1, 4))])
                 for _ in range(chance.randrange(0, 3))] for _ in boxes]
-            with self.subTest(stuffs=mill.stuffs(), recipes=mill.recipes(), bands=bands, have=have, boxes=boxes, rows=rows):
+            with self.subTest(recipes=mill.recipes(), bands=bands, have=have, boxes=boxes, rows=rows):
                 told = self.told(bands, have, boxes, rows, mill)
             runs.append(None if told is None else (told[0], told[2] is None))
             late += told is not None and told[3] is not None and told[3] > 0
@@ -366,7 +379,8 @@ class SpoiledTest(unittest.TestCase):
 
     def test_arguments(self):
         rows = [[(1, [("r", (1, 2))])], []]
-        lists = [value for value in ODD if not isinstance(value, list)] + [[], tuple(rows), rows[:1], rows + [[]], [None]]
+        lists = [value for value in ODD if not isinstance(value, list)]
+        lists += [[], tuple(rows), rows[:1], rows + [[]], [None]]
         bad = [(value, InvalidList, value) for value in lists]
         bad += [(replaced(rows, place, row), InvalidRow, row) for place in range(2) for row in no_rows("r")]
         bad += [([None, True], InvalidRow, None)]
