@@ -1,18 +1,15 @@
 """Rows that are sure whatever the yields of recipes with bands are."""
 
-from millpapers.amounts import NOTHING
 from millpapers.bands import LEAST_NAMES, doubled_mill, gives_stuff, least_mill, most_mill, need_bands
-from millpapers.boxes import lead_into, nailed, need_box
+from millpapers.boxes import lead_into
 from millpapers.courses import bars, course, top
-from millpapers.errors import InvalidList, InvalidMill, InvalidNumber, InvalidRow, UnknownName
-from millpapers.kinds import is_list_of, is_list_within, is_whole_within
+from millpapers.errors import InvalidList, InvalidNumber, InvalidRow, UnknownName
+from millpapers.kinds import is_list_of, is_whole_within
 from millpapers.mills import GREATEST
+from millpapers.plans import doubled_chain, need_plan, need_small
 from millpapers.spoils import LeastRun, MostRun, first_failure
-from millpapers.steps import is_row_of, need_holdings
+from millpapers.steps import is_row_of
 from millpapers.tables import tables_of
-
-MOST_STUFFS = 4
-MOST_ROWS = 4
 
 
 def banded(mill, bands, recipe, stuff, least, most):
@@ -35,35 +32,35 @@ def banded(mill, bands, recipe, stuff, least, most):
 
 def sure_rows(mill, bands, have, boxes):
     """Return any rows, one for each box, that are sure, None if there are none."""
-    _need_plan(mill, bands, have, boxes)
-    found = course(doubled_mill(mill, bands), _doubled_chain(have, boxes))
+    need_plan(mill, bands, have, boxes)
+    found = course(doubled_mill(mill, bands), doubled_chain(have, boxes))
     return None if found is None else found[1]
 
 
 def is_sure(mill, bands, have, boxes, value):
     """Return whether a value is a list of rows, one for each box, that are sure."""
-    _need_plan(mill, bands, have, boxes)
+    need_plan(mill, bands, have, boxes)
     if not is_list_of(value, len(boxes)):
         return False
-    chain = _doubled_chain(have, boxes)
+    chain = doubled_chain(have, boxes)
     return lead_into(tables_of(doubled_mill(mill, bands)), [*have, *have], value, chain[1:])
 
 
 def doubled(mill, bands):
     """Return the mill that goes through the run with all least amounts and that with all greatest ones at once."""
-    need_bands(_need_small(mill), bands)
+    need_bands(need_small(mill), bands)
     return doubled_mill(mill, bands)
 
 
 def sure_bars(mill, bands, have, boxes):
     """Return any bars that no rows are sure, None if some are."""
-    _need_plan(mill, bands, have, boxes)
-    return bars(doubled_mill(mill, bands), _doubled_chain(have, boxes))
+    need_plan(mill, bands, have, boxes)
+    return bars(doubled_mill(mill, bands), doubled_chain(have, boxes))
 
 
 def spoiled(mill, bands, have, boxes, rows):
     """Return the run and where in it rows fail first, None if they are sure."""
-    tables = _need_plan(mill, bands, have, boxes)
+    tables = need_plan(mill, bands, have, boxes)
     if not is_list_of(rows, len(boxes)):
         raise InvalidList(rows)
     for row in rows:
@@ -78,36 +75,8 @@ def spoiled(mill, bands, have, boxes, rows):
 
 def surely(mill, bands, have, boxes, at, stuff):
     """Return how much of a stuff rows that are sure can bring to a box even in their worst run, as `top` does."""
-    tables = _need_plan(mill, bands, have, boxes)
+    tables = need_plan(mill, bands, have, boxes)
     if not is_whole_within(at, 0, len(boxes) - 1):
         raise InvalidNumber(at)
     place = tables.place_of_stuff(stuff)
-    return top(doubled_mill(mill, bands), _doubled_chain(have, boxes), at + 1, LEAST_NAMES[place])
-
-
-def _need_small(mill):
-    """Return the tables of a mill; raise InvalidMill unless it is one of so few stuffs that it can be doubled."""
-    tables = tables_of(mill)
-    if len(tables.rooms) > MOST_STUFFS:
-        raise InvalidMill(mill)
-    return tables
-
-
-def _need_plan(mill, bands, have, boxes):
-    """Return the tables of a mill; raise the error of the first argument that does not fit."""
-    tables = _need_small(mill)
-    need_bands(tables, bands)
-    need_holdings(tables, have)
-    if not is_list_within(boxes, 1, MOST_ROWS):
-        raise InvalidList(boxes)
-    for box in boxes:
-        need_box(tables, box)
-    return tables
-
-
-def _doubled_chain(have, boxes):
-    """Return the chain of the doubled mill: the lows hold for the least stuffs, the highs for the most ones."""
-    chain = [nailed([*have, *have])]
-    for box in boxes:
-        chain.append([(low, None) for low, _ in box] + [(NOTHING, high) for _, high in box])
-    return chain
+    return top(doubled_mill(mill, bands), doubled_chain(have, boxes), at + 1, LEAST_NAMES[place])
