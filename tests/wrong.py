@@ -198,3 +198,23 @@ def check_arguments(test, function, arguments):
                     test.assertIs(list(caught.exception.__dict__.values())[0], field)
     names = {name: mine for name, mine, _ in arguments}
     test.assertEqual(function(**names), function(*good))
+
+
+def no_entries(one, other, stuff):
+    """Values that are no entries with these names, of which the first stands ahead of the second."""
+    good = [(one, stuff, (1, 2)), (other, stuff, (-1, 2))]
+    values = [value for value in ODD if value != []] + [tuple(good), good[:1], good[1:], good[::-1], good + good]
+    values += [[list(entry) for entry in good], [good[0], (other, stuff, (-1, 3))], [good[0], (one, stuff, (-1, 2))]]
+    values += [[good[0], (other, stuff + "x", (-1, 2))], {good[0]: good[1]}, good[0]]
+    for item in [*ODD, good[1][:2], good[1] + (1,), good[1][::-1]]:
+        values += [[good[0], item], [item, good[1]], [item]]
+    for name in NO_NAMES:
+        values += [[(name, stuff, (1, 2)), good[1]], [good[0], (name, stuff, (-1, 2))]]
+        values += [[(one, name, (1, 2)), (other, name, (-1, 2))]]
+    for amount in NO_AMOUNTS:
+        if amount != (-1, 2):
+            values += [[good[0], (other, stuff, amount)]]
+    values += [[(one, stuff, (0, 1)), (other, stuff, (0, 1))], [(one, stuff, (0, 1))]]
+    values += [[(one, stuff, (2, 4)), (other, stuff, (-2, 4))], [(one, stuff, (1, 1)), (other, stuff, (-2, 2))]]
+    values += [[(one, stuff, (True, 1)), (other, stuff, (-1, 1))], [(one, stuff, (1, 1)), (other, stuff, (-1, True))]]
+    return values
