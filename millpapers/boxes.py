@@ -28,6 +28,11 @@ def need_closed(tables, box):
         raise InvalidBox(box)
 
 
+def is_chain(tables, value):
+    """Return whether a value is a chain of the mill."""
+    return is_list_within(value, LEAST_BOXES, MOST_BOXES) and all([is_box(tables, box) for box in value])
+
+
 def need_chain(tables, chain):
     """Raise InvalidChain unless the argument is a list of 2 to 5 items, then InvalidBox with the first that is none."""
     if not is_list_within(chain, LEAST_BOXES, MOST_BOXES):

@@ -49,6 +49,13 @@ def need_mill(mill):
         raise InvalidMill(mill)
 
 
+def is_stuff(value):
+    """Return whether a value is a stuff of some mill, with its room."""
+    if not is_tuple_of(value, 2) or not is_name(value[0]):
+        return False
+    return value[1] is None or is_whole_within(value[1], 0, GREATEST)
+
+
 def is_recipe(stuff_names, value):
     """Return whether a value is a recipe over the stuffs with these names."""
     if not is_tuple_of(value, 3) or not is_name(value[0]):
@@ -63,15 +70,9 @@ def _copied(recipes):
 def _need_stuffs(stuffs):
     earlier = []
     for stuff in stuffs:
-        if not _is_stuff(stuff) or stuff[0] in earlier:
+        if not is_stuff(stuff) or stuff[0] in earlier:
             raise InvalidItem(stuff)
         earlier.append(stuff[0])
-
-
-def _is_stuff(value):
-    if not is_tuple_of(value, 2) or not is_name(value[0]):
-        return False
-    return value[1] is None or is_whole_within(value[1], 0, GREATEST)
 
 
 def _need_recipes(stuff_names, recipes):

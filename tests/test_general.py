@@ -5,12 +5,18 @@ import importlib
 import inspect
 import unittest
 
+from millpapers.book import Book, alike_books, balance, booked, entries_of, held, nets, parted_at, posted, restated
+from millpapers.book import settled_since, standing
 from millpapers.courses import bars, bottom, course, is_bars, is_course, may, narrow, row_bars, row_of, row_to, top
 from millpapers.forall import always, edges, from_all, is_always, is_from_all, row_between, row_from
 from millpapers.library import Library, brinks, can_do, done_from, first_lacking, inner_rows, is_can_do, is_inner_rows
 from millpapers.library import needed, row_over, row_within, stands_for, stands_within, together
 from millpapers.mills import Mill, turned
+from millpapers.mixing import mixed, stretch, sure_from, sure_from_all
+from millpapers.moves import fewest_moves, groups, moves_make
 from millpapers.rows import done, is_row, led, narrows
+from millpapers.texts import bars_text, chain_text, course_text, mill_text, read_bars, read_chain, read_course
+from millpapers.texts import read_mill, wrong_line
 from millpapers.worths import fair, gain, growing, is_fair, is_loop, loop, rate, rate_brew, rate_prices, seeds
 from millpapers.yields import banded, doubled, is_sure, spoiled, sure_bars, sure_rows, surely
 from tests.makers import FREE, NONE, nailed
@@ -45,11 +51,28 @@ INTERFACE = {
         "doubled": ["mill", "bands"], "sure_bars": ["mill", "bands", "have", "boxes"],
         "spoiled": ["mill", "bands", "have", "boxes", "rows"],
         "surely": ["mill", "bands", "have", "boxes", "at", "stuff"]},
+    "millpapers.mixing": {
+        "mixed": ["mill", "parts"], "stretch": ["mill", "one", "other", "goal"],
+        "sure_from_all": ["mill", "bands", "haves", "boxes"],
+        "sure_from": ["mill", "bands", "haves", "boxes", "rows", "have"]},
+    "millpapers.book": {
+        "Book": ["places", "stuffs"], "standing": ["book", "moment"], "balance": ["book", "moment", "day"],
+        "held": ["book", "moment", "day", "place", "stuff"], "posted": ["book", "moment", "day"], "nets": ["book"],
+        "alike_books": ["one", "other"], "parted_at": ["one", "other"], "restated": ["book", "one", "other", "day"],
+        "settled_since": ["book", "day"], "booked": ["mill", "have", "row", "place"],
+        "entries_of": ["mill", "step", "place"]},
+    "millpapers.moves": {"moves_make": ["moves"], "groups": ["entries"], "fewest_moves": ["entries"]},
+    "millpapers.texts": {
+        "mill_text": ["mill"], "chain_text": ["mill", "chain"], "course_text": ["mill", "chain", "value"],
+        "bars_text": ["mill", "chain", "value"], "read_mill": ["text"], "read_chain": ["mill", "text"],
+        "read_course": ["mill", "chain", "text"], "read_bars": ["mill", "chain", "text"], "wrong_line": ["text"]},
 }
 METHODS = {
     Mill: {"stuffs": [], "recipes": [], "names": []},
     Library: {"put": ["name", "mill"], "drop": ["name"], "mill_of": ["name"], "stand_ins": ["name"], "best": ["name"],
               "names": [], "circles": [], "back": []},
+    Book: {"tell": ["moment", "day", "entries"], "instead": ["moment", "number", "day", "entries"],
+           "close": ["moment", "day"], "back": []},
 }
 
 MILL = Mill([("a", None), ("b", 3)], [("r", [("a", 1)], [("b", 1)]), ("w", [("b", 2)], []), ("o", [], [])])
@@ -89,6 +112,9 @@ def calls():
     yield from calls_of_forall()
     yield from calls_of_library()
     yield from calls_of_yields()
+    yield from calls_of_mixing()
+    yield from calls_of_book()
+    yield from calls_of_texts()
 
 
 def calls_of_worths():
@@ -177,6 +203,62 @@ def calls_of_yields():
     yield surely, [mill, bands, have, far, 0, "b"]
 
 
+def calls_of_mixing():
+    row = [(2, [("r", (1, 2)), ("w", (1, 8))])]
+    yield mixed, [MILL, [((1, 3), [(4, 1), (0, 1)], row), ((1, 3), [(4, 1), (0, 1)], row), ((1, 3), [(0, 1), (3, 1)], [])]]
+    for goal in ([FREE, ((1, 1), None)], [FREE, nailed(2)], [NONE, ((3, 1), None)]):
+        yield stretch, [MILL, [(0, 1), (0, 1)], [(2, 1), (1, 2)], goal]
+    bands, haves = [("r", "b", 1, 2)], [((1, 1), (2, 1)), ((0, 1), (1, 2))]
+    boxes, far = [[FREE, FREE], [FREE, ((1, 2), None)]], [[FREE, ((3, 2), None)]]
+    yield sure_from_all, [MILL, bands, haves, boxes]
+    yield sure_from_all, [MILL, bands, haves, far]
+    rows = sure_from_all(MILL, bands, haves, boxes)[1]
+    yield sure_from, [MILL, bands, haves, boxes, rows, [(3, 2), (1, 3)]]
+    yield sure_from, [MILL, bands, haves, boxes, rows, [(1, 1), (0, 1)]]
+
+
+def some_told_book(count):
+    book, here = Book(["p", "q"], ["a", "b"]), [("p", "a", (1, 1)), ("q", "b", (1, 2)), ("world", "a", (-1, 1)),
+                                                ("world", "b", (-1, 2))]
+    book.tell(1, 1, here)
+    book.close(1, 2)
+    for turn in range(count):
+        book.instead(2, turn, turn, here)
+    book.tell(3, 1, here)
+    return book
+
+
+def calls_of_book():
+    for function in (standing, balance, posted):
+        yield function, [some_told_book(2), *[3, 4][:1 if function is standing else 2]]
+    yield held, [some_told_book(1), 3, 4, "q", "b"]
+    yield nets, [some_told_book(3)]
+    yield alike_books, [some_told_book(1), some_told_book(2)]
+    yield parted_at, [some_told_book(1), some_told_book(2)]
+    yield restated, [some_told_book(1), 1, 3, 2]
+    yield settled_since, [some_told_book(1), 3]
+    yield booked, [MILL, [(4, 1), (0, 1)], [(2, [("r", (1, 2))])], "p"]
+    yield entries_of, [MILL, ("r", (1, 2)), "p"]
+    entries = balance(some_told_book(2), 9, 9)
+    yield groups, [entries]
+    yield fewest_moves, [entries]
+    yield moves_make, [fewest_moves(entries)]
+
+
+def calls_of_texts():
+    chain, barred = [[nailed(4), NONE], [FREE, ((1, 1), None)]], [[nailed(0), NONE], [FREE, ((1, 1), None)]]
+    path, stages = course(MILL, chain), bars(MILL, barred)
+    yield mill_text, [MILL]
+    yield chain_text, [MILL, chain]
+    yield course_text, [MILL, chain, path]
+    yield bars_text, [MILL, barred, stages]
+    yield read_mill, [mill_text(MILL)]
+    yield read_chain, [MILL, chain_text(MILL, chain)]
+    yield read_course, [MILL, chain, course_text(MILL, chain, path)]
+    yield read_bars, [MILL, barred, bars_text(MILL, barred, stages)]
+    yield wrong_line, [mill_text(MILL) + "x"]
+
+
 def lists_in(value):
     found = []
     if isinstance(value, list):
@@ -196,6 +278,8 @@ def spoil(value):
 def plain(value):
     if isinstance(value, Mill):
         return ("mill", value.stuffs(), value.recipes())
+    if isinstance(value, Book):
+        return ("book", standing(value, 99), nets(value), posted(value, 99, 2))
     return value
 
 

@@ -197,6 +197,14 @@ class LanguageTest(unittest.TestCase):
         for at, node in self.nodes(ast.Attribute):
             self.assertIn(node.attr, own | METHODS | stored, at)
 
+    def test_names_of_methods_and_attributes(self):
+        own = {item.name for _, node in self.nodes(ast.ClassDef) for item in node.body
+               if isinstance(item, ast.FunctionDef)}
+        stored = {node.attr for _, node in self.nodes(ast.Attribute) if isinstance(node.ctx, ast.Store)}
+        self.assertFalse(own & stored)
+        for at, node in self.nodes(ast.ClassDef):
+            self.assertRegex(node.name, "^[A-Z]", at)
+
     def test_values(self):
         for at, node in self.nodes(ast.Constant):
             self.assertNotIsInstance(node.value, (float, complex, bytes), at)

@@ -46,13 +46,15 @@ def long_spans(chance, mill, width):
     return spans
 
 
-class LimitsTest(unittest.TestCase):
+class TimedTest(unittest.TestCase):
     def timed(self, function, *handed):
         start = time.perf_counter()
         told = function(*handed)
         self.assertLess(time.perf_counter() - start, SECONDS, function.__name__)
         return told
 
+
+class LimitsTest(TimedTest):
     def check(self, mill, chain):
         one, other = self.timed(course, mill, chain), self.timed(bars, mill, chain)
         self.assertNotEqual(one is None, other is None)
