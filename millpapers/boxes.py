@@ -9,10 +9,20 @@ LEAST_BOXES = 2
 MOST_BOXES = 5
 
 
+def is_span(value, room):
+    """Return whether a value is a low and a high of a stuff with this room."""
+    if not is_tuple_of(value, 2) or not is_amount(value[0]) or not fits_room(value[0], room):
+        return False
+    low, high = value
+    if high is None:
+        return True
+    return is_amount(high) and not is_less(high, low) and fits_room(high, room)
+
+
 def is_box(tables, value):
     if not is_list_of(value, len(tables.rooms)):
         return False
-    return all([_is_span(span, room) for span, room in zip(value, tables.rooms)])
+    return all([is_span(span, room) for span, room in zip(value, tables.rooms)])
 
 
 def need_box(tables, box):
@@ -84,15 +94,6 @@ def is_nothing_there(span):
 def is_full_there(span, room):
     """Return whether a low and a high leave no space of a stuff."""
     return room is not None and span[0] == (room, 1)
-
-
-def _is_span(value, room):
-    if not is_tuple_of(value, 2) or not is_amount(value[0]) or not fits_room(value[0], room):
-        return False
-    low, high = value
-    if high is None:
-        return True
-    return is_amount(high) and not is_less(high, low) and fits_room(high, room)
 
 
 def _is_between(amount, low, high):

@@ -218,3 +218,16 @@ def no_entries(one, other, stuff):
     values += [[(one, stuff, (2, 4)), (other, stuff, (-2, 4))], [(one, stuff, (1, 1)), (other, stuff, (-2, 2))]]
     values += [[(one, stuff, (True, 1)), (other, stuff, (-1, 1))], [(one, stuff, (1, 1)), (other, stuff, (-1, True))]]
     return values
+
+
+def no_claims(wide, tight):
+    """Values that are no claims on any mill with these stuffs: one without a room, and one with the room 1."""
+    good = (0, wide, (0, 1), (1, 1))
+    values = list(ODD) + [list(good), good[:3], good + (1,), good[::-1], {good: 1}, [good]]
+    values += [(at, *good[1:]) for at in NO_WHOLES]
+    values += [(0, name, (0, 1), (1, 1)) for name in [*NO_NAMES, "nobody"]]
+    values += [(0, wide, amount, None) for amount in NO_AMOUNTS]
+    values += [(0, wide, (0, 1), amount) for amount in NO_AMOUNTS if amount is not None]
+    values += [(0, wide, (2, 1), (1, 1)), (0, wide, (1, 2), (1, 3)), (0, tight, (2, 1), None), (0, tight, (0, 1), (2, 1))]
+    values += [(0, tight, (3, 2), (3, 2)), (0, wide, None, (1, 1)), (0, wide, ((0, 1), (1, 1)), None)]
+    return values
