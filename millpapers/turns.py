@@ -33,6 +33,16 @@ def row_between_ends(tables, start, end, amounts, width):
     return [(1, _steps(tables, first)), (turns, middle), (1, list(reversed(_steps(tables, last))))]
 
 
+def step_bounds(tables, have, recipe):
+    """Return the amounts of a recipe, one for each stuff that bounds it, above which it can't be done."""
+    bounds = [part(have[stuff], number) for stuff, number in tables.takes[recipe]]
+    for stuff, net in enumerate(tables.nets[recipe]):
+        room = tables.rooms[stuff]
+        if net > 0 and room is not None:
+            bounds.append(part(minus((room, 1), have[stuff]), net))
+    return bounds
+
+
 def _steps(tables, amounts):
     return [(tables.recipe_names[recipe], amount) for recipe, amount in amounts.items()]
 
@@ -43,7 +53,7 @@ def _little_of_each(tables, have, amounts, used, most):
     littles = {}
     for recipe in order:
         little = part(amounts[recipe], 4)
-        for bound in _bounds(tables, have, recipe):
+        for bound in step_bounds(tables, have, recipe):
             little = lesser(little, part(bound, 2))
         if most is not None:
             little = lesser(little, part(most, len(used) * _greatest_number(tables, recipe)))
@@ -55,16 +65,6 @@ def _little_of_each(tables, have, amounts, used, most):
 def gone_on(tables, have, recipe, amount):
     """Return what so much of a recipe leads to."""
     return [plus(held, many(net, amount)) for held, net in zip(have, tables.nets[recipe])]
-
-
-def _bounds(tables, have, recipe):
-    """Return the amounts of a recipe, one for each stuff that bounds it, above which it can't be done."""
-    bounds = [part(have[stuff], number) for stuff, number in tables.takes[recipe]]
-    for stuff, net in enumerate(tables.nets[recipe]):
-        room = tables.rooms[stuff]
-        if net > 0 and room is not None:
-            bounds.append(part(minus((room, 1), have[stuff]), net))
-    return bounds
 
 
 def _greatest_number(tables, recipe):

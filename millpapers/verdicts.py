@@ -50,6 +50,17 @@ class Verdict:
         bound = rise(flow.program, {flow.above[(at, stuff)]: sign})
         return None if bound is None else plus(low, flow.meant(sign * bound[0], bound[1]))
 
+    def most_done(self, recipe):
+        """Return the bound of what courses of one leg do of a recipe still possible, and worths that show it.
+
+        It is None if there is no bound.
+        """
+        flow = Flow(self.tables, self.walk.bounds, self.open_recipes())
+        settle(flow.program)
+        weights = {flow.amounts[(0, recipe)]: 1}
+        bound = rise(flow.program, weights)
+        return None if bound is None else (flow.meant(bound[0], bound[1]), flow.worths(weights))
+
     def _search(self):
         self._strike_ends()
         struck = True

@@ -43,7 +43,7 @@ class Walk:
         """Return whether a stage of the last kind holds here."""
         if not is_tuple_of(stage, 2) or not isinstance(stage[0], str) or stage[0] != "worths":
             return False
-        if not self._keeps_to(stage[1]):
+        if not self.keeps_to(stage[1]):
             return False
         floor = self.floor(stage[1])
         return floor is not None and floor[0] > 0
@@ -81,11 +81,7 @@ class Walk:
         """Return what a recipe gains in a leg."""
         return worth_of(self.tables.nets[recipe], worths[leg])
 
-    def _open_in(self, box):
-        """Return which stuffs can be had in a box, and which have space there."""
-        return [not known for known in self.nothing[box]], [not known for known in self.full[box]]
-
-    def _keeps_to(self, worths):
+    def keeps_to(self, worths):
         """Return whether a value is worths at which no possible recipe gains above nothing."""
         if not self.is_worths(worths):
             return False
@@ -94,8 +90,12 @@ class Walk:
                 return False
         return True
 
+    def _open_in(self, box):
+        """Return which stuffs can be had in a box, and which have space there."""
+        return [not known for known in self.nothing[box]], [not known for known in self.full[box]]
+
     def _takes_tight(self, worths):
-        if not self._keeps_to(worths) or self.floor(worths) != NOTHING:
+        if not self.keeps_to(worths) or self.floor(worths) != NOTHING:
             return False
         for leg in range(self.legs):
             for recipe in self.left_in(leg):

@@ -125,6 +125,17 @@ class Looker:
     def is_bars(self, chain, stages):
         if not stages or stages[-1][0] != "worths" or any(stage[0] == "worths" for stage in stages[:-1]):
             return False
+        return self.walk(chain, stages)[0] is True
+
+    def possible_behind(self, chain, stages):
+        """The recipes possible in the first leg behind stages without the last kind, None if some stage does not hold."""
+        if any(stage[0] == "worths" for stage in stages):
+            return None
+        told, possible = self.walk(chain, stages)
+        return None if told is False else possible[0]
+
+    def walk(self, chain, stages):
+        """Whether the last stage holds (None if it is not of the last kind), and the recipes possible in each leg."""
         legs = len(chain) - 1
         possible = [set(self.order) for _ in range(legs)]
         lows = [[number(low) for low, _ in box] for box in chain]
@@ -143,18 +154,18 @@ class Looker:
             worths = [[number(worth) for worth in leg] for leg in said]
             gains = [{name: self.gain(leg, name) for name in some} for leg, some in zip(worths, possible)]
             if any(gain > 0 for leg in gains for gain in leg.values()):
-                return False
+                return False, possible
             steps = self.differences(worths, len(chain))
             floor = Fraction(0)
             for b in range(len(chain)):
                 for s in stuffs:
                     if steps[b][s] < 0 and highs[b][s] is None:
-                        return False
+                        return False, possible
                     floor += steps[b][s] * (lows[b][s] if steps[b][s] >= 0 else highs[b][s])
             if kind == "worths":
-                return floor > 0
+                return floor > 0, possible
             if kind != "tight" or floor != 0:
-                return False
+                return False, possible
             for leg in range(legs):
                 possible[leg] = set(name for name in possible[leg] if gains[leg][name] == 0)
             for b in range(len(chain)):
@@ -163,7 +174,7 @@ class Looker:
                         empty[b].add(s)
                     if steps[b][s] < 0 and self.rooms[s] is not None and highs[b][s] == self.rooms[s]:
                         full[b].add(s)
-        return False
+        return None, possible
 
     def gain(self, worths, name):
         takes, gives = self.recipes[name]
