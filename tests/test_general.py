@@ -8,12 +8,17 @@ import unittest
 from millpapers.book import Book, alike_books, balance, booked, entries_of, held, nets, parted_at, posted, restated
 from millpapers.book import settled_since, standing
 from millpapers.courses import bars, bottom, course, is_bars, is_course, may, narrow, row_bars, row_of, row_to, top
+from millpapers.diaries import diary_text, kept_deeds, read_diary
 from millpapers.forall import always, edges, from_all, is_always, is_from_all, row_between, row_from
 from millpapers.library import Library, brinks, can_do, done_from, first_lacking, inner_rows, is_can_do, is_inner_rows
 from millpapers.library import needed, row_over, row_within, stands_for, stands_within, together
+from millpapers.live import Works, is_cap
+from millpapers.lots import cheapest, cheapest_stop, idle, is_lots_paper, least_lots, least_stops, lots_from_all
+from millpapers.lots import lots_paper, only, sole, stops_from_all, without
 from millpapers.mills import Mill, turned
 from millpapers.mixing import mixed, stretch, sure_from, sure_from_all
 from millpapers.moves import fewest_moves, groups, moves_make
+from millpapers.records import Records
 from millpapers.rows import done, is_row, led, narrows
 from millpapers.texts import bars_text, chain_text, course_text, mill_text, read_bars, read_chain, read_course
 from millpapers.texts import read_mill, wrong_line
@@ -66,6 +71,16 @@ INTERFACE = {
         "mill_text": ["mill"], "chain_text": ["mill", "chain"], "course_text": ["mill", "chain", "value"],
         "bars_text": ["mill", "chain", "value"], "read_mill": ["text"], "read_chain": ["mill", "text"],
         "read_course": ["mill", "chain", "text"], "read_bars": ["mill", "chain", "text"], "wrong_line": ["text"]},
+    "millpapers.diaries": {
+        "diary_text": ["mill", "deeds"], "read_diary": ["mill", "text"], "kept_deeds": ["mill", "text"]},
+    "millpapers.lots": {
+        "only": ["mill", "lot"], "without": ["mill", "lot"], "least_lots": ["mill", "chain"],
+        "least_stops": ["mill", "chain"], "lots_paper": ["mill", "chain"], "is_lots_paper": ["mill", "chain", "value"],
+        "sole": ["mill", "chain"], "idle": ["mill", "chain"], "cheapest": ["mill", "chain", "prices"],
+        "cheapest_stop": ["mill", "chain", "prices"], "lots_from_all": ["mill", "haves", "goal"],
+        "stops_from_all": ["mill", "haves", "goal"]},
+    "millpapers.live": {"Works": ["mill", "have"], "is_cap": ["mill", "have", "goal", "recipe", "value"]},
+    "millpapers.records": {"Records": ["mill", "moments"]},
 }
 METHODS = {
     Mill: {"stuffs": [], "recipes": [], "names": []},
@@ -73,6 +88,13 @@ METHODS = {
               "names": [], "circles": [], "back": []},
     Book: {"tell": ["moment", "day", "entries"], "instead": ["moment", "number", "day", "entries"],
            "close": ["moment", "day"], "back": []},
+    Works: {"have": [], "step": ["recipe", "amount"], "measure": ["stuff", "amount"], "keep": ["name", "goal"],
+            "drop": ["name"], "kept": [], "log": [], "back": [], "drift": [], "copy": [], "sight": ["name"],
+            "lead": ["name"], "lost": ["name"], "still": ["name", "recipe"], "__eq__": ["other"]},
+    Records: {"tell": ["time", "claim"], "take_back": ["time", "number"], "times": [], "known": ["time"],
+              "claim": ["number"], "clash": ["time"], "chain": ["time"], "what_was": ["time"], "why_not": ["time"],
+              "may_have": ["time"], "span": ["time", "at", "stuff"], "says": ["time", "claim"], "quarrel": ["time"],
+              "since": ["claim"], "broken": [], "back": [], "copy": [], "__eq__": ["other"]},
 }
 
 MILL = Mill([("a", None), ("b", 3)], [("r", [("a", 1)], [("b", 1)]), ("w", [("b", 2)], []), ("o", [], [])])
@@ -115,6 +137,8 @@ def calls():
     yield from calls_of_mixing()
     yield from calls_of_book()
     yield from calls_of_texts()
+    yield from calls_of_lots()
+    yield from calls_of_objects()
 
 
 def calls_of_worths():
@@ -257,6 +281,80 @@ def calls_of_texts():
     yield read_course, [MILL, chain, course_text(MILL, chain, path)]
     yield read_bars, [MILL, barred, bars_text(MILL, barred, stages)]
     yield wrong_line, [mill_text(MILL) + "x"]
+
+
+def calls_of_lots():
+    mill = Mill(MILL.stuffs(), [*MILL.recipes(), ("q", [("a", 2)], [("b", 2)])])
+    chain, barred = [[nailed(4), NONE], [FREE, ((1, 1), None)]], [[nailed(0), NONE], [FREE, ((1, 1), None)]]
+    for function in (only, without):
+        yield function, [mill, ["r", "o"]]
+        yield function, [mill, []]
+    for function in (least_lots, least_stops, lots_paper, sole, idle):
+        yield function, [mill, chain]
+        yield function, [mill, barred]
+        yield function, [mill, [[FREE, FREE], [FREE, FREE]]]
+    yield is_lots_paper, [mill, chain, lots_paper(mill, chain)]
+    yield is_lots_paper, [mill, barred, lots_paper(mill, barred)]
+    for function in (cheapest, cheapest_stop):
+        yield function, [mill, chain, [(1, 2), (0, 1), (0, 1), (1, 3)]]
+        yield function, [mill, barred, [(1, 2), (0, 1), (0, 1), (1, 3)]]
+    for function in (lots_from_all, stops_from_all):
+        yield function, [mill, [((1, 1), (4, 1)), NONE], chain[1]]
+
+
+def told_works():
+    works = Works(MILL, [(4, 1), (0, 1)])
+    works.keep("g", [FREE, ((1, 1), None)])
+    works.keep("h", [((5, 1), None), FREE])
+    works.lead("g")
+    works.measure("b", (1, 2))
+    works.step("w", (1, 8))
+    works.drop("h")
+    works.keep("h", [((3, 1), None), ((1, 1), None)])
+    return works
+
+
+def told_records():
+    records = Records(MILL, 3)
+    records.tell(1, (0, "a", (4, 1), (4, 1)))
+    records.tell(1, (2, "b", (1, 1), None))
+    records.tell(2, (1, "b", (0, 1), (1, 2)))
+    records.take_back(3, 2)
+    records.tell(3, (0, "b", (0, 1), (0, 1)))
+    records.tell(4, (2, "a", (7, 2), None))
+    records.tell(5, (0, "b", (1, 1), None))
+    return records
+
+
+def calls_of_objects():
+    """Calls of diaries, and of what works and records tell, each of objects made anew."""
+    works, records = told_works(), told_records()
+    deeds = [*works.log(), ("tell", 3, records.claim(0)), ("take_back", 3, 0)]
+    yield diary_text, [MILL, deeds]
+    for function in (read_diary, kept_deeds):
+        yield function, [MILL, diary_text(MILL, deeds)]
+        yield function, [MILL, diary_text(MILL, [])]
+    yield kept_deeds, [MILL, "x"]
+    for method in (works.have, works.kept, works.log, works.drift, records.times, records.broken):
+        yield method, []
+    for name in ("g", "h"):
+        for method in (works.sight, works.lost):
+            yield method, [name]
+        for recipe in MILL.names():
+            yield works.still, [name, recipe]
+    for time in (0, 1, 2, 3, 4, 5):
+        for method in (records.known, records.clash, records.chain, records.what_was, records.why_not, records.may_have,
+                       records.quarrel):
+            yield method, [time]
+        yield records.span, [time, 1, "a"]
+        yield records.says, [time, (2, "b", (2, 1), None)]
+    yield records.claim, [2]
+    yield records.since, [(2, "b", (1, 1), None)]
+    goal = [((1, 1), None), FREE]
+    works.keep("i", goal)
+    for recipe in ("r", "w"):
+        _, amount, _, paper = works.still("i", recipe)
+        yield is_cap, [MILL, works.have(), goal, recipe, (amount, paper)]
 
 
 def lists_in(value):
