@@ -340,6 +340,14 @@ class TellErrorsTest(unittest.TestCase):
         self.check("close", [("moment", 3, self.bad_moments()),
                              ("day", 3, self.bad_days() + [(value, InvalidNumber, value) for value in [0, 1, 2]])])
 
+    def test_first_tellings(self):
+        for method, handed in (("tell", [-1, 0, []]), ("tell", [0, -1, []]), ("close", [-1, 0]), ("close", [0, -1])):
+            with self.assertRaises(InvalidNumber) as caught:
+                getattr(Book(["p"], ["a"]), method)(*handed)
+            self.assertEqual(caught.exception.value, -1)
+        with self.assertRaises(UnknownBooking):
+            Book(["p"], ["a"]).instead(0, 0, 0, [])
+
     def test_back(self):
         for _ in range(3):
             self.book.back()
@@ -367,7 +375,8 @@ class LookErrorsTest(unittest.TestCase):
         check_arguments(self, restated, [books, one, other, day])
         check_arguments(self, settled_since, [books, day])
         for function in (alike_books, parted_at):
-            unlike = [Book(["p"], ["a"]), Book(["q", "p"], ["a"]), Book(["p", "q"], ["a", "b"]), Book(["p", "q"], ["b"])]
+            unlike = [Book(["p"], ["a"]), Book(["q", "p"], ["a"]), Book(["p", "q"], ["a", "b"]),
+                      Book(["p", "q"], ["b"])]
             check_arguments(self, function, [
                 ("one", book, books[2]),
                 ("other", Book(["p", "q"], ["a"]), books[2] + [(mine, UnlikeBooks, mine) for mine in unlike])])

@@ -138,15 +138,19 @@ class DiaryTest(unittest.TestCase):
             return None
 
     def test_wrong_lines(self):
-        for line in ("", " ", "step r 0", "step r -1", "step a 1", "step r 1/1", "step r", "step r 1 1", "measure give 4",
-                     "measure give -1", "measure r 1", "measure a 2/4", "keep g 0 *", "keep g 0 * 0 * 0 *", "keep G 0 * 0 *",
+        for line in ("", " ", "step r 0", "step r -1", "step a 1", "step r 1/1", "step r", "step r 1 1",
+                     "measure give 4",
+                     "measure give -1", "measure r 1", "measure a 2/4", "keep g 0 *", "keep g 0 * 0 * 0 *",
+                     "keep G 0 * 0 *",
                      "keep 0 * 0 *", "keep g 0 * 0 4", "keep g 1 0 0 *", "drop", "drop G", "drop g g", "row", "row -1",
                      "row 00", "row 1", "row 1\nrow 0", "row 1\nblock 1", "row 1\nblock 1 r", "row 1\nblock 0 r 1",
-                     "row 1\nblock 1 r 0", "row 1\nblock 1 a 1", "row 1\nblock 1 r 1\nblock 1 r 1", "row 2\nblock 1 r 1",
+                     "row 1\nblock 1 r 0", "row 1\nblock 1 a 1", "row 1\nblock 1 r 1\nblock 1 r 1",
+                     "row 2\nblock 1 r 1",
                      "row 0\nblock 1 r 1", "block 1 r 1", "row %d" % 10 ** 1999, "row 1 1\nblock 1 r 1", "tell 0 0 a 0",
                      "tell 0 0 a 1 0", "tell 0 -1 a 0 *", "tell 1/2 0 a 0 *", "tell 0 0 r 0 *", "tell 0 0 give 0 4",
                      "tell 0 0 give 4 *", "tell 0 0 a * *", "tell 0 0 a 0 * *", "tell +0 0 a 0 *", "tell -0 0 a 0 *",
-                     "take_back 0 -1", "take_back 0", "take_back 0 0 0", "take_back 1/2 0", "take 0 0", "diary", "mill"):
+                     "take_back 0 -1", "take_back 0", "take_back 0 0 0", "take_back 1/2 0", "take 0 0", "diary",
+                     "mill"):
             text = "diary\ndrop g\n" + line + "\n"
             with self.assertRaises(InvalidText, msg=line):
                 read_diary(MILL, text)
@@ -154,7 +158,8 @@ class DiaryTest(unittest.TestCase):
             self.assertEqual(kept[:1], [("drop", "g")])
             self.assertIn(len(kept), (1, 2) if line.startswith("row") else (1,))
         self.assertEqual(kept_deeds(MILL, "diary\nrow 0\nblock 1 r 1\nrow 0\n"), [("row", [])])
-        for text in ("", "\n", "diary", "diary ", "diary \n", " diary\n", "Diary\n", "drop g\n", "\ndiary\n", "diary\r\n"):
+        for text in ("", "\n", "diary", "diary ", "diary \n", " diary\n", "Diary\n", "drop g\n", "\ndiary\n",
+                     "diary\r\n"):
             self.assertIsNone(kept_deeds(MILL, text))
             with self.assertRaises(InvalidText):
                 read_diary(MILL, text)
@@ -162,9 +167,12 @@ class DiaryTest(unittest.TestCase):
 
     def test_each_deed_by_itself(self):
         # None of these could follow the ones ahead of them, or ever be done.
-        deeds = [("drop", "never"), ("take_back", 9, 9), ("tell", 3, (99, "a", (1, 1), None)), ("tell", -3, (0, "a", (0, 1), (0, 1))),
-                 ("take_back", -9, 9), ("keep", "g", [FREE, NONE]), ("keep", "g", [FREE, NONE]), ("step", "r", (10 ** 99, 1)),
-                 ("row", [(10 ** 99, [("r", (10 ** 99, 1))])]), ("measure", "give", (3, 1)), ("measure", "give", (3, 1))]
+        deeds = [("drop", "never"), ("take_back", 9, 9), ("tell", 3, (99, "a", (1, 1), None)),
+                 ("tell", -3, (0, "a", (0, 1), (0, 1))),
+                 ("take_back", -9, 9), ("keep", "g", [FREE, NONE]), ("keep", "g", [FREE, NONE]),
+                 ("step", "r", (10 ** 99, 1)),
+                 ("row", [(10 ** 99, [("r", (10 ** 99, 1))])]), ("measure", "give", (3, 1)),
+                 ("measure", "give", (3, 1))]
         self.assertEqual(read_diary(MILL, diary_text(MILL, deeds)), deeds)
         bare = Mill([("a", 0)], [])
         deeds = [("measure", "a", (0, 1)), ("row", []), ("keep", "r", [NONE]), ("tell", 0, (0, "a", (0, 1), None))]
@@ -172,7 +180,8 @@ class DiaryTest(unittest.TestCase):
 
     def test_long_numbers(self):
         long = 10 ** 1999
-        deeds = [("step", "r", (long - 1, long)), ("measure", "a", (long, long + 1)), ("tell", -long, (long, "a", (1, long), None)),
+        deeds = [("step", "r", (long - 1, long)), ("measure", "a", (long, long + 1)),
+                 ("tell", -long, (long, "a", (1, long), None)),
                  ("row", [(long, [("r", (long, 1))])]), ("take_back", long, long),
                  ("keep", "g", [((1, long), (long, 1)), ((1, long), (2, 1))])]
         text = diary_text(MILL, deeds)
@@ -189,7 +198,8 @@ class DiaryTest(unittest.TestCase):
         items += [list(deed) for deed in good] + [deed[:-1] for deed in good] + [deed[1:] for deed in good]
         items += [replaced_in(deed, 0, word) for deed in good for word in ODD if word != "row"]
         items += [("step", "r", amount) for amount in NO_STEPS_AMOUNTS]
-        items += [("measure", "a", amount) for amount in NO_AMOUNTS] + [("measure", "b", (2, 1)), ("measure", "b", (3, 2))]
+        items += [("measure", "a", amount) for amount in NO_AMOUNTS] + [("measure", "b", (2, 1)),
+                                                                        ("measure", "b", (3, 2))]
         for name in [*NO_NAMES, "b"]:
             items.append(("step", name, (1, 2)))
         for name in [*NO_NAMES, "r"]:

@@ -229,7 +229,8 @@ def calls_of_yields():
 
 def calls_of_mixing():
     row = [(2, [("r", (1, 2)), ("w", (1, 8))])]
-    yield mixed, [MILL, [((1, 3), [(4, 1), (0, 1)], row), ((1, 3), [(4, 1), (0, 1)], row), ((1, 3), [(0, 1), (3, 1)], [])]]
+    yield mixed, [MILL, [((1, 3), [(4, 1), (0, 1)], row), ((1, 3), [(4, 1), (0, 1)], row),
+                         ((1, 3), [(0, 1), (3, 1)], [])]]
     for goal in ([FREE, ((1, 1), None)], [FREE, nailed(2)], [NONE, ((3, 1), None)]):
         yield stretch, [MILL, [(0, 1), (0, 1)], [(2, 1), (1, 2)], goal]
     bands, haves = [("r", "b", 1, 2)], [((1, 1), (2, 1)), ((0, 1), (1, 2))]

@@ -65,7 +65,8 @@ def some_goal(chance, mill, held):
     for _ in range(chance.randrange(0, 4)):
         if mill.names():
             held = looker.go(held, [(1, [(chance.choice(mill.names()), chance.choice([(1, 1), (1, 2)]))])]) or held
-    return [chance.choice([FREE, FREE, (pair(amount), None), ((0, 1), pair(amount)), nailed(amount)]) for amount in held]
+    return [chance.choice([FREE, FREE, (pair(amount), None), ((0, 1), pair(amount)),
+                           nailed(amount)]) for amount in held]
 
 
 class Player:
@@ -246,6 +247,10 @@ class WorksTest(unittest.TestCase):
         self.assertIs(works == same, True)
         others = [Works(CREW, [(7, 2), (1, 4), (1, 1)]), Works(CREW, [(4, 1), (0, 1), (1, 1)]),
                   Works(Mill(CREW.stuffs(), []), [(4, 1), (0, 1), (1, 1)])]
+        others += [Works(CREW, [(5, 1), (0, 1), (1, 1)]),
+                   Works(Mill(CREW.stuffs(), [*CREW.recipes(), ("o", [], [])]), [(4, 1), (0, 1), (1, 1)])]
+        for other in others[3:]:
+            other.step("r", (1, 4))
         for other in [*others, *ODD, works.log(), works.have(), CREW]:
             self.assertIs(works == other, False)
             self.assertIs(works != other, True)
@@ -285,7 +290,8 @@ class WorksTest(unittest.TestCase):
         self.assertEqual(Works(have=have, mill=mill), Works(mill, have))
 
     def test_methods_stand_in_the_class(self):
-        for name in ("__init__", "have", "step", "measure", "keep", "drop", "kept", "log", "back", "drift", "copy", "sight",
+        for name in ("__init__", "have", "step", "measure", "keep", "drop", "kept", "log", "back", "drift", "copy",
+                     "sight",
                      "lead", "lost", "still", "__eq__"):
             self.assertIn(name, Works.__dict__)
 
@@ -425,9 +431,8 @@ def cap_by_words(mill, have, goal, name, value):
 
 
 def walked_by_words(mill, chain, stages):
-    """The names still possible behind stages; a recipe is struck if the stages bar a mill that has it alone in front."""
-    looker = looker_of(mill)
-    return looker.possible_behind(chain, stages)
+    """The names of the recipes still possible behind stages, None if these do not hold."""
+    return looker_of(mill).possible_behind(chain, stages)
 
 
 class StillTest(unittest.TestCase):
@@ -536,10 +541,14 @@ class CapTest(unittest.TestCase):
         for amount in ((0, 1), (1, 3), (9, 1)):
             self.assertIs(is_cap(CREW, bare, [FREE, FREE, NONE], "r", (amount, ("barred", [("begin", 0)]))), True)
         self.assertIs(is_cap(CREW, bare, [FREE, FREE, NONE], "r", ((1, 2), ("worths", [("begin", 0)], worths))), False)
+        # Worths do not count behind stages that strike the recipe.
+        self.assertIs(is_cap(CREW, bare, [FREE, FREE, NONE], "r", ((9, 1), ("worths", [("begin", 0)], worths))), False)
+        self.assertIs(is_cap(CREW, bare, [FREE, FREE, NONE], "r", ((9, 1), ("worths", [], worths))), True)
         self.assertIs(is_cap(CREW, bare, goal, "r", ((0, 1), ("step",))), True)
         tight = [((4, 1), None), FREE, FREE]
         self.assertIs(is_cap(CREW, have, tight, "r", ((0, 1), ("barred", [("tight", worths)]))), True)
-        self.assertIs(is_cap(CREW, have, tight, "r", ((0, 1), ("barred", [("tight", worths), ("worths", worths)]))), False)
+        self.assertIs(is_cap(CREW, have, tight, "r", ((0, 1), ("barred", [("tight", worths), ("worths", worths)]))),
+                      False)
 
     def test_values_of_all_kinds(self):
         goal, have = [((3, 1), None), FREE, ((0, 1), (1, 1))], [(4, 1), (0, 1), (1, 1)]
@@ -549,13 +558,15 @@ class CapTest(unittest.TestCase):
             box = goal if start is have else [FREE, FREE, NONE]
             value = ((1, 1), paper)
             self.assertIs(is_cap(CREW, start, box, "r", value), True)
-            bad = papers_without(value, []) + [((1, 1), mine) for mine in papers_without(paper, ["step", "barred", "worths"])
+            bad = papers_without(value, []) + [((1, 1), mine) for mine in papers_without(paper,
+                                                                                         ["step", "barred", "worths"])
                                                if mine not in (("step",), ("barred", [("begin", 0)]))]
             bad += [(amount, paper) for amount in NO_AMOUNTS] + [((1, 1), list(paper)), ((1, 1), paper[:1] + ([],) * 3)]
             for mine in bad:
                 if mine != value:
                     self.assertIs(is_cap(CREW, start, box, "r", mine), False, mine)
-        for stages in [*ODD, [("begin",)], [("begin", 0, 0)], [["begin", 0]], (("begin", 0),), [("begin", True)], [("end", -1)],
+        for stages in [*ODD, [("begin",)], [("begin", 0, 0)], [["begin", 0]], (("begin", 0),), [("begin", True)],
+                       [("end", -1)],
                        [("tight", [])], [("tight", [[(1, 1)]])], [("begin", 0), None], ("begin", 0)]:
             if stages != []:
                 self.assertIs(is_cap(CREW, have, goal, "r", ((1, 1), ("worths", stages, worths))), False, stages)
@@ -594,7 +605,8 @@ class CapTest(unittest.TestCase):
             worths = [[(chance.randrange(-2, 3), 1) for _ in mill.stuffs()]]
             return (amount, chance.choice([("step",), ("barred", []), ("worths", [], worths)]))
         if way == 2:
-            stage = chance.choice([("begin", 0), ("end", 0), ("tight", [[(chance.randrange(-1, 2), 1) for _ in mill.stuffs()]])])
+            stage = chance.choice([("begin", 0), ("end", 0), ("tight", [[(chance.randrange(-1, 2),
+                                                                          1) for _ in mill.stuffs()]])])
             return (amount, replaced_in(paper, 1, [*paper[1], stage]))
         return (amount, replaced_in(paper, 1, paper[1][:-1]))
 

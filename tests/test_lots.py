@@ -119,7 +119,7 @@ class LeastTest(unittest.TestCase):
         self.assertGreater(len([kind for kind in kinds if kind and len(kind[0]) > 1]), 3)
 
     def planted(self, chance, ways):
-        """A mill in which just so many lots bring the stuff z; way by way the recipes of one lot, one behind another."""
+        """A mill in which just so many lots bring the stuff z; the recipes of each way to it do one behind another."""
         names = ["r%d" % n for n in range(sum(ways))]
         chance.shuffle(names)
         stuffs, recipes = [("a", None), ("z", None)], []
@@ -214,15 +214,22 @@ class PaperTest(unittest.TestCase):
                     replaced_in(paper, place, items[::-1]), replaced_in(paper, place, []),
                     replaced_in(paper, place, tuple(items))]
             for spot in range(len(items)):
-                bad += [replaced_in(paper, place, replaced(items, spot, value)) for value in ODD if value != items[spot]]
+                bad += [replaced_in(paper, place, replaced(items, spot,
+                                                           value)) for value in ODD if value != items[spot]]
         bad += [(lots[:1], courses[:1], stops, barring), (lots, courses, stops[:1], barring[:1])]
         both = course(THREE, CHAIN)
-        bad += [([["r", "s", "t"]], [both], stops, barring), ([*lots, ["r", "t"]], [*courses, courses[0]], stops, barring),
+        bad += [([["r", "s", "t"]], [both], stops, barring), ([*lots, ["r", "t"]], [*courses, courses[0]], stops,
+                                                              barring),
                 ([lots[0], lots[0], lots[1]], [courses[0], courses[0], courses[1]], stops, barring),
                 ([["r"], ["t", "s"]], courses, stops, barring), ([["r"], ["s"]], courses, stops, barring),
                 ([["r"], ["s", "t", "t"]], courses, stops, barring), ([["r"], ("s", "t")], courses, stops, barring)]
+        more = [course(only(THREE, ["r", "s"]), CHAIN), *courses]
+        bad += [([["r", "s"], *lots], more, stops, barring), ([*lots[::-1], ["r", "s"]], [*courses[::-1], more[0]],
+                                                              stops, barring),
+                ([["s", "t"], ["r", "s"], ["r"]], [courses[1], more[0], courses[0]], stops, barring)]
         none = bars(without(THREE, ["r", "s", "t"]), CHAIN)
-        bad += [(lots, courses, [*stops, ["r", "s", "t"]], [*barring, none]), (lots, courses, [["r", "s", "t"]], [none]),
+        bad += [(lots, courses, [*stops, ["r", "s", "t"]], [*barring, none]),
+                (lots, courses, [["r", "s", "t"]], [none]),
                 (lots, courses, [["r", "s", "t"], *stops], [none, *barring]), (lots, courses, [*stops, stops[0]],
                                                                               [*barring, barring[0]]),
                 (lots, courses, [["s", "r"], stops[1]], barring), (lots, courses, [["r"], stops[1]], barring)]
@@ -274,7 +281,8 @@ class FromAllTest(unittest.TestCase):
 
     def test_edges_that_need_other_recipes(self):
         goal = [FREE, ((1, 1), None), FREE]
-        for haves, lots in (([((2, 1), (4, 1)), NONE, NONE], [["r"], ["s", "t"]]), ([nailed(1), NONE, NONE], [["s", "t"]]),
+        for haves, lots in (([((2, 1), (4, 1)), NONE, NONE], [["r"], ["s", "t"]]),
+                            ([nailed(1), NONE, NONE], [["s", "t"]]),
                             ([((0, 1), (4, 1)), nailed(1), NONE], [[]]), ([((0, 1), (4, 1)), NONE, nailed(1)], [["t"]]),
                             ([((1, 1), (4, 1)), ((0, 1), (1, 1)), NONE], [["s", "t"]]),
                             ([((2, 1), (4, 1)), NONE, ((0, 1), (1, 1))], [["r"], ["s", "t"]]),

@@ -179,6 +179,50 @@ class StretchTest(unittest.TestCase):
         for inner in ((False, False, True), (False, False, False)):
             self.assertGreater(len([mine for mine in told if mine[:3] == inner]), 0, inner)
 
+    def test_tight_goals(self):
+        # What fits by sums alone is often nothing, full, or not done at all.
+        chance, kinds = random.Random(104), []
+        while len(kinds) < 1500:
+            mill = some_mill(chance, chance.randrange(2, 5), chance.randrange(1, 5), (1, 1, 1, 2), (None, 1, 1, 2))
+            one, other = some_have(chance, mill, 1), some_have(chance, mill, 1)
+            other = [chance.choice([first, second]) for first, second in zip(one, other)]
+            way, end = chance.choice([Fraction(0), Fraction(1), Fraction(1, 2)]), []
+            amounts = {name: chance.choice([0, 0, 1, Fraction(1, 2)]) for name in mill.names()}
+            for (stuff, room), first, second in zip(mill.stuffs(), one, other):
+                some = (1 - way) * number(first) + way * number(second)
+                for name, takes, gives in mill.recipes():
+                    some += amounts[name] * (dict(gives).get(stuff, 0) - dict(takes).get(stuff, 0))
+                end.append(max(Fraction(0), some if room is None else min(some, room)))
+            goal = [chance.choice([FREE, FREE, (pair(some), None), nailed(some), ((0, 1), pair(some))]) for some in end]
+            with self.subTest(stuffs=mill.stuffs(), recipes=mill.recipes(), one=one, other=other, goal=goal):
+                kinds.append(self.check(chance, mill, one, other, goal) is None)
+        self.assertGreater(min(kinds.count(True), kinds.count(False)), 100)
+
+    def test_strikes_by_sums(self):
+        # No k can be made, as no z may be left; so nothing makes b where there is no k.
+        mill = Mill([("a", None), ("k", None), ("z", None), ("b", None)],
+                    [("p", [], [("k", 1), ("z", 1)]), ("r", [("a", 1), ("k", 1)], [("b", 1), ("k", 1)])])
+        one, other = [(1, 1), (0, 1), (0, 1), (0, 1)], [(2, 1), (0, 1), (0, 1), (0, 1)]
+        self.assertEqual(stretch(mill, one, other, [FREE, FREE, NONE, ((1, 1), None)]), None)
+        self.assertEqual(stretch(mill, one, other, [FREE, FREE, FREE, ((3, 2), None)]), ((1, 2), True, (1, 1), True))
+        # All of c is used up where there is so much of t, but the last d needs some.
+        mill = Mill([("a", None), ("c", None), ("t", None)], [("d", [("c", 2)], [("c", 1), ("t", 1)])])
+        one, other = [(0, 1), (1, 1), (0, 1)], [(1, 1), (1, 1), (0, 1)]
+        self.assertEqual(stretch(mill, one, other, [FREE, FREE, ((1, 1), None)]), None)
+        self.assertEqual(stretch(mill, one, other, [FREE, FREE, ((99, 100), None)]), ((0, 1), True, (1, 1), True))
+        # The tank of c is full where there is so much of t, but the last r makes space there.
+        mill = Mill([("a", None), ("c", 2), ("k", None), ("t", None)],
+                    [("f", [], [("c", 2), ("k", 1)]), ("r", [("c", 1), ("k", 1)], [("t", 1)])])
+        one, other = [(0, 1), (1, 1), (0, 1), (0, 1)], [(1, 1), (1, 1), (0, 1), (0, 1)]
+        self.assertEqual(stretch(mill, one, other, [FREE, FREE, NONE, ((1, 1), None)]), None)
+        self.assertEqual(stretch(mill, one, other, [FREE, FREE, NONE, ((99, 100), None)]), ((0, 1), True, (1, 1), True))
+        # By sums it fits from the one end alone, where c can't grow out of nothing.
+        mill = Mill([("a", None), ("b", None), ("c", None)], [("r", [("a", 2), ("c", 1)], [("b", 1), ("c", 2)])])
+        one, other = [(4, 1), (0, 1), (0, 1)], [(0, 1), (0, 1), (1, 1)]
+        for first, second in ((one, other), (other, one)):
+            self.assertEqual(stretch(mill, first, second, [FREE, ((2, 1), None), FREE]), None)
+        self.assertEqual(stretch(mill, one, other, [FREE, ((1, 1), None), FREE]), ((0, 1), False, (1, 2), True))
+
     def some_goal(self, chance, mill, one, other):
         """A goal around what is come to from some share."""
         way = chance.choice([Fraction(0), Fraction(1), Fraction(1, 2), Fraction(1, 3)])
@@ -303,7 +347,8 @@ class SureFromTest(unittest.TestCase):
     def test_rows_of_whatever_blocks(self):
         bands, haves, boxes = [("r", "y", 1, 2)], [((2, 1), (3, 1)), nailed(0)], [[FREE, ((1, 1), None)], [FREE, FREE]]
         one = [[(10 ** 40, [("r", (1, 10 ** 40))])], []]
-        other = [[(1, [("r", (1, 2)), ("r", (1, 2))]), (1, [("r", (1, 4))]), (1, [("r", (1, 8))]), (1, [("r", (1, 16))])],
+        other = [[(1, [("r", (1, 2)), ("r", (1, 2))]), (1, [("r", (1, 4))]), (1, [("r", (1, 8))]),
+                  (1, [("r", (1, 16))])],
                  [(2, [("r", (1, 64))])]]
         told = sure_from(TAPS, bands, haves, boxes, [one, other], [(9, 4), (0, 1)])
         self.assertEqual(told, [blocks_mixed([one[0], other[0]], [Fraction(3, 4), Fraction(1, 4)]),

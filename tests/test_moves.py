@@ -111,7 +111,8 @@ class MovesTest(unittest.TestCase):
         self.check(entries[1::2], 2)
 
     def test_made(self):
-        moves = [("p", "q", [("a", (1, 2)), ("b", (-1, 1))]), ("q", "world", [("a", (1, 2))]), ("q", "p", [("b", (1, 3))])]
+        moves = [("p", "q", [("a", (1, 2)), ("b", (-1, 1))]), ("q", "world", [("a", (1, 2))]),
+                 ("q", "p", [("b", (1, 3))])]
         self.assertEqual(moves_make(moves), [("p", "a", (-1, 2)), ("p", "b", (4, 3)), ("q", "b", (-4, 3)),
                                              ("world", "a", (1, 2))])
         self.assertEqual(moves_make(moves[:1] + [("q", "p", moves[0][2])]), [])

@@ -327,7 +327,8 @@ class RecordsTest(unittest.TestCase):
         self.assertEqual(book.quarrel(2), [0, 2, 3])
 
     def test_methods_stand_in_the_class(self):
-        for name in ("__init__", "tell", "take_back", "times", "known", "claim", "clash", "chain", "what_was", "why_not",
+        for name in ("__init__", "tell", "take_back", "times", "known", "claim", "clash", "chain", "what_was",
+                     "why_not",
                      "may_have", "span", "says", "quarrel", "since", "broken", "back", "copy", "__eq__"):
             self.assertIn(name, Records.__dict__)
 

@@ -15,7 +15,8 @@ from tests.wrong import NO_AMOUNTS, ODD, bad_chains, bad_mills, check_arguments,
 MILL = Mill([("a", None), ("give", 3)], [("r", [("a", 2)], [("give", 1), ("a", 1)]), ("s", [], [])])
 WORDS = Mill([("take", 0), ("give", 10 ** 6), ("block", None), ("stuff", 7), ("recipe", 1), ("mill", 2)],
              [("recipe", [("recipe", 1), ("give", 2), ("take", 3)], [("take", 4), ("give", 5), ("block", 10 ** 6)]),
-              ("give", [], [("give", 1)]), ("take", [("take", 1)], []), ("stuff", [], []), ("block", [("block", 1)], [])])
+              ("give", [], [("give", 1)]), ("take", [("take", 1)], []), ("stuff", [], []),
+              ("block", [("block", 1)], [])])
 NO_TEXTS = [value for value in ODD if not isinstance(value, str)] + [b"mill\nstuff a *\n", ["mill\nstuff a *\n"]]
 
 
@@ -85,8 +86,10 @@ def bent_texts(text):
             if place < len(text):
                 found.append(text[:place] + sign + text[place + 1:])
         found.append(text[:place] + text[place + 1:])
-    for old, new in (("\n", "\r\n"), ("\n", "\r"), (" ", "\t"), (" ", "  "), ("1/2", "2/4"), ("1/2", "0.5"), (" 0 ", " -0 "),
-                     (" 0 ", " 0/1 "), (" 1 ", " 1/1 "), (" 2 ", " 2/1 "), (" 2 ", " 4/2 "), (" 2 ", " +2 "), (" 2 ", " 02 "),
+    for old, new in (("\n", "\r\n"), ("\n", "\r"), (" ", "\t"), (" ", "  "), ("1/2", "2/4"), ("1/2", "0.5"),
+                     (" 0 ", " -0 "),
+                     (" 0 ", " 0/1 "), (" 1 ", " 1/1 "), (" 2 ", " 2/1 "), (" 2 ", " 4/2 "), (" 2 ", " +2 "),
+                     (" 2 ", " 02 "),
                      (" 1 ", " 1_0 "), (" 1 ", " \u0661 "), (" 1 ", " \u00b9 "), ("*", "None")):
         found.append(text.replace(old, new))
         found.append(text.replace(old, new, 1))
@@ -218,18 +221,24 @@ class MillTextTest(unittest.TestCase):
                 ("mill\n" + recipes, 2), ("mill\nrecipe r take give\n", 2),
                 ("mill\nstuff a *\nrecipe r take give\nstuff b *\n", 4), ("mill\nstuff a *\nstuff a 2\n", 3),
                 ("mill\nstuff a *\nrecipe a take give\nrecipe a take give\n", 4),
-                ("mill\nstuff a *\nrecipe r take 1 a 2 a give\n", 3), ("mill\nstuff a *\nrecipe r take give 1 a 1 a\n", 3),
+                ("mill\nstuff a *\nrecipe r take 1 a 2 a give\n", 3), ("mill\nstuff a *\nrecipe r take give 1 a 1 a\n",
+                                                                       3),
                 ("mill\nstuff a 1000000\n", None), ("mill\nstuff a 1000001\n", 2), ("mill\nstuff a -1\n", 2),
-                ("mill\nstuff a -0\n", 2), ("mill\nstuff a 0\n", None), ("mill\nstuff a 00\n", 2), ("mill\nstuff a 1/2\n", 2),
+                ("mill\nstuff a -0\n", 2), ("mill\nstuff a 0\n", None), ("mill\nstuff a 00\n", 2),
+                           ("mill\nstuff a 1/2\n", 2),
                 ("mill\nstuff a %d\n" % 10 ** 1999, 2), ("mill\nstuff a 1" + "0" * 1999 + "\n", 2),
-                ("mill\nstuff a *\nrecipe r take 0 a give\n", 3), ("mill\nstuff a *\nrecipe r take 1000000 a give\n", None),
+                ("mill\nstuff a *\nrecipe r take 0 a give\n", 3), ("mill\nstuff a *\nrecipe r take 1000000 a give\n",
+                                                                   None),
                 ("mill\nstuff a *\nrecipe r take 1000001 a give\n", 3), ("mill\nstuff a *\nrecipe r take 1 a\n", 3),
                 ("mill\nstuff a *\nrecipe r give\n", 3), ("mill\nstuff a *\nrecipe r give take\n", 3),
                 ("mill\nstuff a *\nrecipe r take a 1 give\n", 3), ("mill\nstuff a *\nrecipe r take give give\n", 3),
                 ("mill\nstuff give *\nrecipe r take 1 give give 1 give\n", None),
-                ("mill\nstuff give *\nrecipe r take 1 give\n", 3), ("mill\nstuff give *\nrecipe r take give 1 give\n", None),
-                ("mill\nstuff a *\nrecipe r take 1 a give", 3), ("mill\nstuff a *\nrecipe", 3), ("mill\nstuff a 2\nx\ny", 3),
-                ("mill\nstuff a\n", 2), ("mill\nstuff a * *\n", 2), ("mill\nstuff A *\n", 2), ("mill\nstuff abcdefghi *\n", 2),
+                ("mill\nstuff give *\nrecipe r take 1 give\n", 3), ("mill\nstuff give *\nrecipe r take give 1 give\n",
+                                                                    None),
+                ("mill\nstuff a *\nrecipe r take 1 a give", 3), ("mill\nstuff a *\nrecipe", 3),
+                           ("mill\nstuff a 2\nx\ny", 3),
+                ("mill\nstuff a\n", 2), ("mill\nstuff a * *\n", 2), ("mill\nstuff A *\n", 2),
+                           ("mill\nstuff abcdefghi *\n", 2),
                 ("mill\nstuff 1a *\n", 2), ("mill\nstuff \u00e4 *\n", 2), ("mill\r\nstuff a *\r\n", 1)):
             with self.subTest(text=text):
                 self.assertEqual(wrong_line(text), told)
@@ -298,8 +307,10 @@ class ChainTextTest(unittest.TestCase):
         mill = Mill([("a", 3)], [])
         for text in ("chain\n", "chain\nbox 0 *\n", "chain\n" + "box 0 *\n" * 6, "chain\nbox 0 *\nbox 4 *\n",
                      "chain\nbox 0 *\nbox 2 1\n", "chain\nbox 0 *\nbox 0 4\n", "chain\nbox 0 * 0 *\nbox 0 *\n",
-                     "chain\nbox 0 *\nbox\n", "chain\nbox 0 *\nbox 0\n", "chain\nbox 0 *\nbox * 0\n", "chain\nbox 0 *\nrow\n",
-                     "chain\nbox 0 *\nbox 0 -1\n", "chain\nbox 0 *\nbox -1 1\n", "box 0 *\nbox 0 *\n", "chain\nbox 0 * \nbox 0 *\n",
+                     "chain\nbox 0 *\nbox\n", "chain\nbox 0 *\nbox 0\n", "chain\nbox 0 *\nbox * 0\n",
+                     "chain\nbox 0 *\nrow\n",
+                     "chain\nbox 0 *\nbox 0 -1\n", "chain\nbox 0 *\nbox -1 1\n", "box 0 *\nbox 0 *\n",
+                     "chain\nbox 0 * \nbox 0 *\n",
                      "chain\nbox 0 *\nbox 1/0 *\n", "chain\nbox 0 *\nbox 1/-2 *\n", "chain\nbox 0 *\nbox 1/ *\n",
                      "chain\nbox 0 *\nbox /2 *\n", "chain\nbox 0 *\nbox 1/2/3 *\n", "chain\nbox 0 *\nbox 0/2 *\n"):
             with self.assertRaises(InvalidText, msg=text):
@@ -372,10 +383,14 @@ class CourseAndBarsTextTest(unittest.TestCase):
             with self.assertRaises(InvalidText, msg=text):
                 read_course(mill, chain, text)
         still = [[nailed(1)], [nailed(0)]]
-        for text in ("bars\n", "bars\nleg -1\n", "bars\nbegin 0\nleg -1\n", "bars\nworths\n", "bars\nworths 0\nleg -1\n",
-                     "bars\nworths\nleg -1 0\n", "bars\nworths\nleg\n", "bars\nworths\nleg -1\nleg -1\n", "bars\nbegin\n",
-                     "bars\nbegin 1\nworths\nleg -1\n", "bars\nbegin 0 0\nworths\nleg -1\n", "bars\nworths\nleg -1\nbegin 0\n",
-                     "bars\nworths\nleg 1\n", "bars\nworths\nleg -1/1\n", "bars\nworths\nleg -2/4\n", "bars\nworths\nleg - 1\n",
+        for text in ("bars\n", "bars\nleg -1\n", "bars\nbegin 0\nleg -1\n", "bars\nworths\n",
+                     "bars\nworths 0\nleg -1\n",
+                     "bars\nworths\nleg -1 0\n", "bars\nworths\nleg\n", "bars\nworths\nleg -1\nleg -1\n",
+                     "bars\nbegin\n",
+                     "bars\nbegin 1\nworths\nleg -1\n", "bars\nbegin 0 0\nworths\nleg -1\n",
+                     "bars\nworths\nleg -1\nbegin 0\n",
+                     "bars\nworths\nleg 1\n", "bars\nworths\nleg -1/1\n", "bars\nworths\nleg -2/4\n",
+                     "bars\nworths\nleg - 1\n",
                      "worths\nleg -1\n", "bars\nbegin -0\nworths\nleg -1\n"):
             with self.assertRaises(InvalidText, msg=text):
                 read_bars(mill, still, text)
@@ -385,7 +400,8 @@ class CourseAndBarsTextTest(unittest.TestCase):
         mill = Mill([("a", None), ("b", 1)], [("r", [("a", 1)], [("b", 1)])])
         chain, barred = [[nailed(1), NONE], [FREE, nailed(1)]], [[nailed(1), NONE], [nailed(1), nailed(1)]]
         path, stages = course(mill, chain), bars(mill, barred)
-        paths = list(ODD) + papers_without(path, []) + [(replaced(path[0], 0, amount), path[1]) for amount in NO_AMOUNTS]
+        paths = list(ODD) + papers_without(path, []) + [(replaced(path[0], 0, amount),
+                                                         path[1]) for amount in NO_AMOUNTS]
         stage = stages[-1]
         bad_stages = list(ODD) + [tuple(stages), stages[:-1], [*stages, stage], [list(stage)], [stage[:1]], stage]
         for read, write, text_chain, value, bad in ((read_course, course_text, chain, path, paths),

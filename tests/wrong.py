@@ -228,6 +228,7 @@ def no_claims(wide, tight):
     values += [(0, name, (0, 1), (1, 1)) for name in [*NO_NAMES, "nobody"]]
     values += [(0, wide, amount, None) for amount in NO_AMOUNTS]
     values += [(0, wide, (0, 1), amount) for amount in NO_AMOUNTS if amount is not None]
-    values += [(0, wide, (2, 1), (1, 1)), (0, wide, (1, 2), (1, 3)), (0, tight, (2, 1), None), (0, tight, (0, 1), (2, 1))]
+    values += [(0, wide, (2, 1), (1, 1)), (0, wide, (1, 2), (1, 3)), (0, tight, (2, 1), None),
+               (0, tight, (0, 1), (2, 1))]
     values += [(0, tight, (3, 2), (3, 2)), (0, wide, None, (1, 1)), (0, wide, ((0, 1), (1, 1)), None)]
     return values
