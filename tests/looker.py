@@ -128,7 +128,7 @@ class Looker:
         return self.walk(chain, stages)[0] is True
 
     def possible_behind(self, chain, stages):
-        """The recipes possible in the first leg behind stages, none of the last kind; None if some stage does not hold."""
+        """The recipes possible in the first leg behind stages, none of the last kind; None if some do not hold."""
         if any(stage[0] == "worths" for stage in stages):
             return None
         told, possible = self.walk(chain, stages)
