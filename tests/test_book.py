@@ -14,7 +14,7 @@ from tests.looker import number, pair
 from tests.makers import some_have, some_mill
 from tests.test_mixing import some_row
 from tests.wrong import NO_NAMES, NO_STEPS_AMOUNTS, NO_WHOLES, ODD, bad_holdings, bad_mills, bad_names, bad_rows
-from tests.wrong import check_arguments, no_entries
+from tests.wrong import check_arguments, check_refused, no_entries
 
 PLACES, STUFFS = ["shed", "yard"], ["b", "a"]
 
@@ -301,16 +301,7 @@ class TellErrorsTest(unittest.TestCase):
 
     def check(self, method, arguments):
         """Each value raises its error, with good and with bad ones behind it, and changes nothing."""
-        good = [mine for _, mine, _ in arguments]
-        worst = [bad[0][0] for _, _, bad in arguments]
-        for place, (name, _, bad) in enumerate(arguments):
-            for value, error, field in bad:
-                for behind in (good, worst):
-                    with self.subTest(method=method, name=name, value=value):
-                        with self.assertRaises(error) as caught:
-                            getattr(self.book, method)(*good[:place], value, *behind[place + 1:])
-                        self.assertIs(caught.exception.__class__, error)
-                        self.assertIs(list(caught.exception.__dict__.values())[0], field)
+        check_refused(self, getattr(self.book, method), arguments)
         self.assertEqual(self.book.__dict__, self.kept)
         getattr(self.book, method)(**{name: mine for name, mine, _ in arguments})
         self.book.back()

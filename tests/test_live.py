@@ -14,7 +14,7 @@ from millpapers.rows import is_row, led
 from tests.looker import number, pair
 from tests.makers import FREE, NONE, looker_of, nailed, some_box, some_have, some_mill
 from tests.wrong import NO_AMOUNTS, NO_NAMES, NO_STEPS_AMOUNTS, ODD, bad_boxes, bad_holdings, bad_mills, bad_names
-from tests.wrong import check_arguments, papers_without, replaced, replaced_in
+from tests.wrong import check_arguments, check_refused, papers_without, replaced, replaced_in
 
 CREW = Mill([("a", None), ("b", None), ("c", 1)], [("r", [("a", 2), ("c", 1)], [("b", 1), ("c", 1)])])
 
@@ -306,21 +306,12 @@ class WorksErrorsTest(unittest.TestCase):
         self.same = self.works.copy()
 
     def check(self, method, arguments):
-        good = [mine for _, mine, _ in arguments]
-        worst = [bad[0][0] for _, _, bad in arguments]
-        for place, (name, _, bad) in enumerate(arguments):
-            for value, error, field in bad:
-                for behind in (good, worst):
-                    with self.subTest(method=method, name=name, value=value):
-                        with self.assertRaises(error) as caught:
-                            getattr(self.works, method)(*good[:place], value, *behind[place + 1:])
-                        self.assertIs(caught.exception.__class__, error)
-                        self.assertIs(list(caught.exception.__dict__.values())[0], field)
+        check_refused(self, getattr(self.works, method), arguments)
         self.assertEqual(self.works, self.same)
         self.assertEqual(self.works.have(), self.same.have())
         named = self.works.copy()
         getattr(named, method)(**{name: mine for name, mine, _ in arguments})
-        getattr(self.works, method)(*good)
+        getattr(self.works, method)(*[mine for _, mine, _ in arguments])
         self.assertEqual(named, self.works)
 
     def test_step(self):

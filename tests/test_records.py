@@ -5,13 +5,13 @@ import random
 import unittest
 from fractions import Fraction
 
-from millpapers.courses import bars, bottom, course, is_bars, is_course, may, top
+from millpapers.courses import bottom, course, is_bars, is_course, may, top
 from millpapers.errors import InvalidClaim, InvalidMill, InvalidNumber, NothingToUndo, UnknownClaim, UnknownName
 from millpapers.mills import Mill
 from millpapers.records import Records
 from tests.looker import number, pair
 from tests.makers import FREE, led_chain, looker_of, nailed, some_box, some_mill
-from tests.wrong import NO_WHOLES, ODD, bad_mills, bad_names, no_claims
+from tests.wrong import NO_WHOLES, ODD, bad_mills, bad_names, check_refused, no_claims
 
 CREW = Mill([("a", None), ("b", None), ("c", 1)], [("r", [("a", 2), ("c", 1)], [("b", 1), ("c", 1)])])
 EVER = 10 ** 9
@@ -487,20 +487,11 @@ class RecordsErrorsTest(unittest.TestCase):
         self.same = self.book.copy()
 
     def check(self, method, arguments):
-        good = [mine for _, mine, _ in arguments]
-        worst = [bad[0][0] for _, _, bad in arguments]
-        for place, (name, _, bad) in enumerate(arguments):
-            for value, error, field in bad:
-                for behind in (good, worst):
-                    with self.subTest(method=method, name=name, value=value):
-                        with self.assertRaises(error) as caught:
-                            getattr(self.book, method)(*good[:place], value, *behind[place + 1:])
-                        self.assertIs(caught.exception.__class__, error)
-                        self.assertIs(list(caught.exception.__dict__.values())[0], field)
+        check_refused(self, getattr(self.book, method), arguments)
         self.assertEqual(self.book, self.same)
         named = self.book.copy()
         told = getattr(named, method)(**{name: mine for name, mine, _ in arguments})
-        self.assertEqual(getattr(self.book, method)(*good), told)
+        self.assertEqual(getattr(self.book, method)(*[mine for _, mine, _ in arguments]), told)
         self.assertEqual(named, self.book)
 
     def no_times(self, more=()):

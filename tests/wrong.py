@@ -178,8 +178,8 @@ def bad_brews(one, other):
     return [(value, InvalidBrew, value) for value in no_brews(one, other)]
 
 
-def check_arguments(test, function, arguments):
-    """Check all errors of a function.
+def check_refused(test, function, arguments):
+    """Check all errors of a function or method.
 
     `arguments` are tuples (name, good, bad), in the order of the parameters, with lists `bad` of tuples
     (value, error, field). Each bad value is handed in with good ones ahead of it, and behind it first with good ones
@@ -196,8 +196,13 @@ def check_arguments(test, function, arguments):
                         function(*handed)
                     test.assertIs(caught.exception.__class__, error)
                     test.assertIs(list(caught.exception.__dict__.values())[0], field)
-    names = {name: mine for name, mine, _ in arguments}
-    test.assertEqual(function(**names), function(*good))
+
+
+def check_arguments(test, function, arguments):
+    """Check all errors of a function as `check_refused` does, and that it takes its arguments by their names."""
+    check_refused(test, function, arguments)
+    named = {name: mine for name, mine, _ in arguments}
+    test.assertEqual(function(**named), function(*[mine for _, mine, _ in arguments]))
 
 
 def no_entries(one, other, stuff):
