@@ -59,7 +59,7 @@ def _deed_lines(deed):
         return [" ".join(["keep", what, *box_words(deed[2])])]
     if word == "tell":
         at, stuff, low, high = deed[2]
-        return [" ".join(["tell", f"{what}", f"{at}", stuff, *span_words((low, high))])]
+        return [" ".join(["tell", str(what), str(at), stuff, *span_words((low, high))])]
     return [f"{word} {what} {fraction_word(deed[2])}"]
 
 

@@ -15,7 +15,7 @@ def mill_text(mill):
     need_mill(mill)
     lines = ["mill"]
     for name, room in mill.stuffs():
-        lines.append(f"stuff {name} {'*' if room is None else room}")
+        lines.append(" ".join(["stuff", name, "*" if room is None else str(room)]))
     for name, takes, gives in mill.recipes():
         lines.append(" ".join(["recipe", name, "take", *_side_words(takes), "give", *_side_words(gives)]))
     return text_of(lines)
@@ -113,7 +113,7 @@ def _need_lines(text):
 
 
 def _side_words(side):
-    return [word for stuff, number in side for word in (f"{number}", stuff)]
+    return [word for stuff, number in side for word in (str(number), stuff)]
 
 
 def _numbers_line(word, numbers):

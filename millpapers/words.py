@@ -8,11 +8,11 @@ MOST_FIGURES = 4300
 
 
 def fraction_word(amount):
-    return f"{amount[0]}" if amount[1] == 1 else f"{amount[0]}/{amount[1]}"
+    return str(amount[0]) if amount[1] == 1 else f"{amount[0]}/{amount[1]}"
 
 
 def high_word(high):
-    """Return the word of a room or a high."""
+    """Return the word of a high."""
     return "*" if high is None else fraction_word(high)
 
 
@@ -26,7 +26,7 @@ def box_words(box):
 
 
 def block_line(block):
-    words = ["block", f"{block[0]}"]
+    words = ["block", str(block[0])]
     for recipe, amount in block[1]:
         words.extend([recipe, fraction_word(amount)])
     return " ".join(words)
@@ -64,7 +64,7 @@ def fraction_in(word):
 
 
 def high_in(word):
-    """Return the tuple of the room or high of a word, or None unless it is written just so."""
+    """Return the tuple of just the high of a word, None unless it is written just so."""
     if word == "*":
         return (None,)
     high = fraction_in(word)
