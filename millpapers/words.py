@@ -3,7 +3,7 @@
 from math import gcd
 
 FIGURES = "0123456789"
-# Python itself reads no longer ones, which is far beyond what texts have to hold.
+# Python reads none longer than these; what texts have to hold is far shorter.
 MOST_FIGURES = 4300
 
 
